@@ -1,0 +1,1 @@
+"""Strands that go through layers, and what greedy products tell of them."""

@@ -1,0 +1,43 @@
+"""The checks of arguments that many functions share, in the order of the parameters."""
+
+from seamlayers.blockwork import is_told_block
+from seamlayers.errors import InvalidList, InvalidNumber, InvalidOrder, InvalidRow
+from seamlayers.kinds import check_kind
+from seamlayers.orderwork import is_told_order
+from seamlayers.rowwork import is_told_row, makes_no_detour
+from seamlayers.values import is_count
+
+
+def check_orders(kind, *orders):
+    """Refuse what is no kind, then each of the values that is no order of it."""
+    check_kind(kind)
+    for order in orders:
+        if not is_told_order(kind, order):
+            raise InvalidOrder(order)
+
+
+def check_rows(kind, *rows):
+    """Refuse what is no kind, then each of the values that is no row of it."""
+    check_kind(kind)
+    for row in rows:
+        if not is_told_row(kind, row):
+            raise InvalidRow(row)
+
+
+def check_least(kind, row):
+    """Refuse what is no kind, then what is no least row of it."""
+    check_rows(kind, row)
+    if not makes_no_detour(kind, row):
+        raise InvalidRow(row)
+
+
+def check_block(kind, block):
+    """Refuse what is no block of a kind."""
+    if not is_told_block(kind, block):
+        raise InvalidList(block)
+
+
+def check_count(number):
+    """Refuse what is no count."""
+    if not is_count(number):
+        raise InvalidNumber(number)

@@ -1,0 +1,69 @@
+"""What rows of steps make and cross, without checks.
+
+Least rows are read off flipped orders, that is, off opposites: to take a head
+off an order is to do a fall of its opposite, and this is the cheaper one.
+"""
+
+from seamlayers.kinds import is_step
+from seamlayers.orderwork import after_step, count_crossings, exchanged, falls_of, opposite_of
+
+MOST_STEPS = 100
+
+
+def is_told_row(kind, value):
+    """Tell whether a value is a row of a kind."""
+    if not (isinstance(value, list) and len(value) <= MOST_STEPS):
+        return False
+    return all([is_step(kind, step) for step in value])
+
+
+def made_by(kind, row):
+    """Return the order that a row makes."""
+    order = kind.start()
+    for step in row:
+        order = after_step(kind, order, step)
+    return order
+
+
+def makes_no_detour(kind, row):
+    """Tell whether a row is least."""
+    return count_crossings(kind, made_by(kind, row)) == len(row)
+
+
+def pair_told(kind, order, step):
+    """Return the pair that a step crosses, as it is told."""
+    first, second = exchanged(kind, order, step)
+    low, high = min(first, second), max(first, second)
+    if kind.name() == "ring":
+        below = low - low % kind.size()
+        return low - below, high - below
+    # A mirror step crosses the pair with the other signs, too: one of both is told.
+    if kind.name() == "mirror" and low + high < 0:
+        return -high, -low
+    return low, high
+
+
+def crossed_by(kind, row):
+    """Return the list of the pairs that the steps of a row cross."""
+    told = []
+    order = kind.start()
+    for step in row:
+        told.append(pair_told(kind, order, step))
+        order = after_step(kind, order, step)
+    return told
+
+
+def first_down(kind, flipped):
+    """Return the first of the least rows that make the opposite of an order."""
+    row = []
+    falls = falls_of(kind, flipped)
+    while falls:
+        row.append(falls[0])
+        flipped = after_step(kind, flipped, falls[0])
+        falls = falls_of(kind, flipped)
+    return row
+
+
+def first_least(kind, order):
+    """Return the first of the least rows that make an order."""
+    return first_down(kind, opposite_of(kind, order))

@@ -1,0 +1,183 @@
+"""The words of the document done in the plainest way, to compare the package with.
+
+Nothing here uses the package but for the methods of `Kind`.
+"""
+
+from seamlayers.kinds import Kind
+
+SIZES = {"plain": range(1, 8), "mirror": range(1, 6), "ring": range(2, 6)}
+
+
+def all_kinds():
+    return [Kind(name, size) for name, sizes in SIZES.items() for size in sizes]
+
+
+def small_kinds():
+    """Kinds with few orders, the least sizes of each among them."""
+    told = [("plain", 1), ("plain", 2), ("plain", 3), ("plain", 4), ("mirror", 1), ("mirror", 2), ("mirror", 3)]
+    return [Kind(name, size) for name, size in told + [("ring", 2), ("ring", 3), ("ring", 4)]]
+
+
+def is_whole(value):
+    return type(value) is int
+
+
+def long_row(kind, order):
+    """A dict from places to items, with the step 0 of each kind at its place 0 and 1."""
+    size = kind.size()
+    if kind.name() == "plain":
+        return dict(enumerate(order))
+    if kind.name() == "mirror":
+        here = {at + 1: item for at, item in enumerate(order)}
+        here.update({-at: -item for at, item in enumerate(order)})
+        return here
+    return {at + round_ * size: item + round_ * size for at, item in enumerate(order) for round_ in range(-3, 4)}
+
+
+def exchanged_places(kind, step):
+    """The pairs of places of the long row that a step exchanges."""
+    if kind.name() == "plain":
+        return [(step, step + 1)]
+    if kind.name() == "mirror":
+        return [(step, step + 1)] if step == 0 else [(step, step + 1), (-step, -step + 1)]
+    return [(step + round_ * kind.size(), step + 1 + round_ * kind.size()) for round_ in range(-2, 3)]
+
+
+def crossed_at(kind, order, step):
+    low, high = exchanged_places(kind, step)[0]
+    row = long_row(kind, order)
+    return row[low] > row[high]
+
+
+def step_done(kind, order, step):
+    row = long_row(kind, order)
+    for low, high in exchanged_places(kind, step):
+        row[low], row[high] = row[high], row[low]
+    first = 1 if kind.name() == "mirror" else 0
+    return [row[at] for at in range(first, first + kind.size())]
+
+
+def row_done(kind, order, row):
+    for step in row:
+        order = step_done(kind, order, step)
+    return order
+
+
+def start(kind):
+    return [1, 2, 3, 4, 5, 6, 7][:kind.size()] if kind.name() == "mirror" else list(range(kind.size()))
+
+
+def levels(kind, most):
+    """Lists of the orders with 0, 1, 2 .. crossings, each with one row that makes it."""
+    here = {tuple(start(kind)): []}
+    seen = set(here)
+    told = []
+    while here and len(told) <= most:
+        told.append([(list(order), row) for order, row in here.items()])
+        further = {}
+        for order, row in here.items():
+            for step in range(kind.steps()):
+                new = tuple(step_done(kind, list(order), step))
+                if new not in seen:
+                    further[new] = row + [step]
+        seen.update(further)
+        here = further
+    return told
+
+
+def orders_up_to(kind, most):
+    """All orders with at most so many crossings: tuples (crossings, order, row)."""
+    return [(many, order, row) for many, level in enumerate(levels(kind, most)) for order, row in level]
+
+
+def falls_of(kind, order):
+    return [step for step in range(kind.steps()) if crossed_at(kind, order, step)]
+
+
+def down(kind, order):
+    """A least row that makes an order, by taking falls off."""
+    row = []
+    while falls_of(kind, order):
+        step = falls_of(kind, order)[-1]
+        row.append(step)
+        order = step_done(kind, order, step)
+    return row[::-1]
+
+
+def least_rows(kind, order):
+    """All least rows that make an order, in order."""
+    steps = falls_of(kind, order)
+    if not steps:
+        return [[]]
+    return sorted(row + [step] for step in steps for row in least_rows(kind, step_done(kind, order, step)))
+
+
+def gains(kind, order, row):
+    for step in row:
+        if not crossed_at(kind, order, step):
+            order = step_done(kind, order, step)
+    return order
+
+
+def is_order_form(kind, value):
+    size = kind.size()
+    if type(value) is not list or len(value) != size or not all(is_whole(item) for item in value):
+        return False
+    if kind.name() == "plain":
+        return sorted(value) == list(range(size))
+    if kind.name() == "mirror":
+        return sorted(abs(item) for item in value) == list(range(1, size + 1))
+    return len({item % size for item in value}) == size and 2 * sum(value) == size * (size - 1)
+
+
+def is_row(kind, value):
+    if type(value) is not list or len(value) > 100:
+        return False
+    return all(is_step(kind, step) for step in value)
+
+
+def is_step(kind, value):
+    return is_whole(value) and 0 <= value < kind.steps()
+
+
+def is_block(kind, value):
+    return is_row(kind, value) and value == sorted(set(value))
+
+
+def is_count(value):
+    return is_whole(value) and value >= 0
+
+
+def subsets(items):
+    found = [[]]
+    for item in items:
+        found = found + [one + [item] for one in found]
+    return found
+
+
+class Chance:
+    """Numbers that look thrown, the same at each run."""
+
+    def __init__(self, seed):
+        self.state = seed
+
+    def below(self, bound):
+        self.state = (self.state * 6364136223846793005 + 1442695040888963407) % 2 ** 64
+        return (self.state >> 33) % bound
+
+    def row(self, kind, length):
+        return [self.below(kind.steps()) for _ in range(length)] if kind.steps() else []
+
+    def order(self, kind, length):
+        return row_done(kind, start(kind), self.row(kind, length))
+
+    def least_row(self, kind, length):
+        """A least row of at most so many steps, shorter where there is none."""
+        order, row = start(kind), []
+        for _ in range(length):
+            rising = [step for step in range(kind.steps()) if not crossed_at(kind, order, step)]
+            if not rising:
+                break
+            row.append(rising[self.below(len(rising))])
+            order = step_done(kind, order, row[-1])
+        return row

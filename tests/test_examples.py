@@ -1,0 +1,35 @@
+"""The examples of the document, as they are printed there."""
+
+import ast
+import pathlib
+import unittest
+
+FOLDER = pathlib.Path(__file__).parent / "examples"
+
+
+def run_lines(text):
+    """Run the lines of a block; return tuples (line, what it tells, what is printed below it)."""
+    names, told, last = {}, [], None
+    for line in text.splitlines():
+        if line.startswith("# "):
+            told.append((last, repr(eval(last, names)), line[2:]))
+        elif isinstance(ast.parse(line).body[0], ast.Expr):
+            last = line
+        else:
+            exec(line, names)
+    return told
+
+
+class Examples(unittest.TestCase):
+    def check(self, name, lines):
+        told = run_lines((FOLDER / name).read_text(encoding="ascii"))
+        self.assertEqual(len(told), lines)
+        for line, got, printed in told:
+            self.assertEqual(got, printed, line)
+
+    def test_point_9(self):
+        self.check("point_9.txt", 6)
+
+
+if __name__ == "__main__":
+    unittest.main()

@@ -1,0 +1,52 @@
+"""The rows of the interface: names, arguments, and where each is defined."""
+
+import importlib
+import inspect
+import unittest
+
+ERRORS = """SeamError InvalidKind InvalidOrder InvalidNumber InvalidRow InvalidList InvalidStanding InvalidDeed
+InvalidWay InvalidLines InvalidFlag InvalidBook Unlike TooMany NothingToUndo NothingToRedo"""
+
+FUNCTIONS = {
+    "kinds": "wait(kind, one, other)",
+    "orders": """is_order(kind, value); crossings(kind, order); falls(kind, order); heads(kind, order);
+        stepped(kind, order, step); stepped_ahead(kind, order, step); opposite(kind, order);
+        product(kind, one, other); how_many_orders(kind, crossings); orders_with(kind, crossings); greatest(kind)""",
+    "blocks": """greatest_in(kind, block); steps_in(kind, order); parted(kind, order, block);
+        how_many_in(kind, block)""",
+}
+
+METHODS = {("kinds", "Kind"): "__init__(self, name, size); name(self); size(self); steps(self); start(self)"}
+
+
+def signatures(text):
+    """Tuples (name, its arguments as they are printed) of a row of the interface."""
+    told = [" ".join(entry.split()) for entry in text.split(";")]
+    return [(entry[:entry.index("(")], entry[entry.index("("):]) for entry in told]
+
+
+class Interface(unittest.TestCase):
+    def test_errors(self):
+        module = importlib.import_module("seamlayers.errors")
+        for name in ERRORS.split():
+            self.assertTrue(inspect.isclass(getattr(module, name)), name)
+            self.assertEqual(getattr(module, name).__module__, "seamlayers.errors")
+
+    def test_functions(self):
+        for module_name, text in FUNCTIONS.items():
+            module = importlib.import_module("seamlayers." + module_name)
+            for name, arguments in signatures(text):
+                function = getattr(module, name)
+                self.assertEqual(str(inspect.signature(function)), arguments, name)
+                self.assertEqual(function.__module__, module.__name__)
+
+    def test_methods_stand_in_their_class(self):
+        for (module_name, class_name), text in METHODS.items():
+            found = getattr(importlib.import_module("seamlayers." + module_name), class_name)
+            self.assertEqual(found.__module__, "seamlayers." + module_name)
+            for name, arguments in signatures(text):
+                self.assertEqual(str(inspect.signature(vars(found)[name])), arguments, name)
+
+
+if __name__ == "__main__":
+    unittest.main()

@@ -23,7 +23,7 @@ def greatest_made(kind, block):
     if is_endless(kind, block):
         return None
     order = kind.start()
-    open_steps = list(block)
+    open_steps = block
     while open_steps:
         order = after_step(kind, order, open_steps[0])
         open_steps = [step for step in block if not is_crossed(kind, order, step)]

@@ -63,10 +63,9 @@ def heads_of(kind, order):
 
 def item_at(kind, order, place):
     """Return the item that the product with an order puts in for a number."""
-    if kind.name() == "plain":
-        return order[place]
     if kind.name() == "mirror":
         return order[place - 1] if place > 0 else -order[-place - 1]
+    # The numbers of a plain order are all below its size, so a rest by it changes none.
     inside = place % kind.size()
     return order[inside] + place - inside
 

@@ -5,7 +5,7 @@ off an order is to do a fall of its opposite, and this is the cheaper one.
 """
 
 from seamlayers.kinds import is_step
-from seamlayers.orderwork import after_step, count_crossings, exchanged, falls_of, opposite_of
+from seamlayers.orderwork import after_step, count_crossings, exchanged, falls_of, is_crossed, opposite_of
 
 MOST_STEPS = 100
 
@@ -67,3 +67,18 @@ def first_down(kind, flipped):
 def first_least(kind, order):
     """Return the first of the least rows that make an order."""
     return first_down(kind, opposite_of(kind, order))
+
+
+def least_places(kind, row):
+    """Return places of a row whose steps are a least row that makes the same order."""
+    places = []
+    order = kind.start()
+    for at, step in enumerate(row):
+        if is_crossed(kind, order, step):
+            # The new step undoes the one step kept that crosses the same: both are left out.
+            told = crossed_by(kind, [row[place] for place in places] + [step])
+            del places[told.index(told[-1])]
+        else:
+            places.append(at)
+        order = after_step(kind, order, step)
+    return places

@@ -181,3 +181,103 @@ class Chance:
             row.append(rising[self.below(len(rising))])
             order = step_done(kind, order, row[-1])
         return row
+
+
+def pairs_crossed(kind, row):
+    """What the steps of a row cross, told as point 11 tells it."""
+    told = []
+    order = start(kind)
+    size = kind.size()
+    for step in row:
+        places = exchanged_places(kind, step)
+        here = long_row(kind, order)
+        pairs = [tuple(sorted((here[low], here[high]))) for low, high in places if low in here and high in here]
+        if kind.name() == "mirror":
+            told.append(pairs[0] if step == 0 else max(pairs, key=lambda pair: abs(pair[1])))
+        elif kind.name() == "plain":
+            told.append(pairs[0])
+        else:
+            low, high = pairs[0]
+            while low < 0:
+                low, high = low + size, high + size
+            while low >= size:
+                low, high = low - size, high - size
+            told.append((low, high))
+        order = step_done(kind, order, step)
+    return told
+
+
+def is_least(kind, row):
+    return len(down(kind, row_done(kind, start(kind), row))) == len(row)
+
+
+def come_to_by_heads(kind, order, most):
+    """How many orders heads lead to, itself among them, or more than `most` as `most + 1`."""
+    level = [tuple(row_done(kind, start(kind), down(kind, order)[::-1]))]
+    many = 1
+    while level:
+        # A head of an order is a fall of its opposite.
+        level = list({tuple(step_done(kind, list(one), step)) for one in level for step in falls_of(kind, list(one))})
+        many += len(level)
+        if many > most:
+            return most + 1
+    return many
+
+
+def rows_up_to(kind, length):
+    """All rows of a kind of at most so many steps."""
+    found = level = [[]]
+    for _ in range(length):
+        level = [row + [step] for row in level for step in range(kind.steps())]
+        found = found + level
+    return found
+
+
+TURN_LENGTHS = {}
+
+
+def turn_lengths(kind):
+    """A dict from pairs of unlike steps to the length of their turns, None if there are none."""
+    told = kind.name(), kind.size()
+    if told not in TURN_LENGTHS:
+        TURN_LENGTHS[told] = lengths_found(kind)
+    return TURN_LENGTHS[told]
+
+
+def lengths_found(kind):
+    found = {}
+    for one in range(kind.steps()):
+        for other in range(kind.steps()):
+            if one != other:
+                by_turns = [(one, other)[at % 2] for at in range(4)]
+                back = [(other, one)[at % 2] for at in range(4)]
+                fits = [many for many in (2, 3, 4)
+                        if row_done(kind, start(kind), by_turns[:many]) == row_done(kind, start(kind), back[:many])]
+                found[one, other] = min(fits, default=None)
+    return found
+
+
+def changes_of(kind, row):
+    """A dict from the changes of a row to the rows that come of them."""
+    found = {}
+    lengths = turn_lengths(kind)
+    for at in range(len(row) + 1):
+        for step in range(kind.steps()):
+            found["in", at, step] = row[:at] + [step, step] + row[at:]
+    for at in range(len(row) - 1):
+        one, other = row[at], row[at + 1]
+        if one == other:
+            found["out", at] = row[:at] + row[at + 2:]
+            continue
+        many = lengths[one, other]
+        if many and row[at:at + many] == [(one, other)[place % 2] for place in range(many)]:
+            found["turn", at] = row[:at] + [(other, one)[place % 2] for place in range(many)] + row[at + many:]
+    return found
+
+
+def is_beneath(kind, one, other):
+    """Whether some part of a least row that makes `other` makes `one`."""
+    found = {tuple(start(kind))}
+    for step in down(kind, other):
+        found |= {tuple(step_done(kind, list(order), step)) for order in found}
+    return tuple(one) in found

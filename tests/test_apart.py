@@ -2,7 +2,7 @@
 
 import unittest
 
-from seamlayers import blocks, orders
+from seamlayers import blocks, greedy, leastrows, orders, rowchains, rows
 from seamlayers.kinds import Kind, wait
 
 from tests.support import Apart
@@ -12,6 +12,10 @@ RING, PAIR = Kind("ring", 3), Kind("ring", 2)
 
 ORDERS = [(PLAIN, [2, 0, 1], [1, 0, 2]), (PLAIN, [0, 1, 2], [0, 1, 2]), (WIDE, [3, 2, 1, 0], [0, 1, 2, 3]),
           (MIRROR, [-2, 1], [-1, -2]), (RING, [-1, 0, 4], [0, 1, 2]), (PAIR, [3, -2], [3, -2])]
+
+# Each with an order, and with a row that makes it.
+ROWS = [(PLAIN, [2, 1, 0], [0, 1, 0]), (PLAIN, [1, 2, 0], [0, 0, 0, 1]), (WIDE, [1, 3, 0, 2], [0, 2, 1]),
+        (MIRROR, [-1, -2], [1, 0, 1, 0]), (RING, [0, -1, 4], [2, 0, 2]), (PAIR, [3, -2], [0, 1, 0, 1, 1])]
 
 
 class Calls(unittest.TestCase, Apart):
@@ -42,9 +46,58 @@ class Calls(unittest.TestCase, Apart):
                 self.assert_apart(blocks.parted, (kind, one, block))
                 self.assert_apart(blocks.how_many_in, (kind, block))
 
+    def test_rows(self):
+        for kind, order, row in ROWS:
+            for function in (rows.is_row, rows.made, rows.crossed, rows.is_least, rows.least_part,
+                             greedy.greedy_row, greedy.kept, greedy.kept_behind, rowchains.row_changes):
+                self.assert_apart(function, (kind, row))
+            self.assert_apart(rows.alike, (kind, row, row + row))
+            self.assert_apart(rows.crossed_in, (kind, order))
+            for value in ([], [0], [0, 1], (0,), None):
+                self.assert_apart(rows.is_least_part, (kind, row, value))
+            self.assert_apart(rows.out_for, (kind, [0, 1], 1))
+
+    def test_least_rows(self):
+        for kind, order, _ in ROWS:
+            self.assert_apart(leastrows.least_row, (kind, order))
+            self.assert_apart(leastrows.how_many_least, (kind, order))
+            for number in range(leastrows.how_many_least(kind, order)):
+                self.assert_apart(leastrows.least_numbered, (kind, order, number))
+                row = leastrows.least_numbered(kind, order, number)
+                self.assert_apart(leastrows.least_number, (kind, row))
+                self.assert_apart(leastrows.next_least, (kind, row))
+
+    def test_chains_of_rows(self):
+        for kind, order, row in ROWS:
+            for change in rowchains.row_changes(kind, row) + [("in", 0, 0), ("in", len(row), 1)]:
+                self.assert_apart(rowchains.row_changed, (kind, row, change))
+            for other in (row, leastrows.least_row(kind, order), [0], [1, 1] + row):
+                self.assert_apart(rowchains.row_chain, (kind, row, other))
+                for value in ([], [("in", 0, 1)], [("out", 0)], None):
+                    self.assert_apart(rowchains.is_row_chain, (kind, row, other, value))
+
+    def test_greedy_products(self):
+        for kind, one, other in ORDERS:
+            for step in range(kind.steps()):
+                self.assert_apart(greedy.gained, (kind, one, step))
+                self.assert_apart(greedy.gained_ahead, (kind, one, step))
+            for function in (greedy.greedy, greedy.lost, greedy.halves, greedy.leaves_alone):
+                self.assert_apart(function, (kind, one, other))
+                self.assert_apart(function, (kind, other, one))
+            for told in ([], [one], [one, other], [other, one, one]):
+                self.assert_apart(greedy.greedy_all, (kind, told))
+            for count in range(4):
+                self.assert_apart(greedy.power, (kind, one, count))
+                self.assert_apart(greedy.power, (kind, kind.start(), count))
+            for function in (greedy.how_many_leave, greedy.settles):
+                self.assert_apart(function, (kind, one))
+            self.assert_apart(greedy.settled_orders, (kind,))
+
     def test_one_list_for_both_orders(self):
         for kind, one, _ in ORDERS:
             self.assert_apart(lambda kind, order: orders.product(kind, order, order), (kind, one))
+            self.assert_apart(lambda kind, order: greedy.halves(kind, order, order), (kind, one))
+            self.assert_apart(lambda kind, order: greedy.greedy_all(kind, [order, order]), (kind, one))
 
 
 if __name__ == "__main__":

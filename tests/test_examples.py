@@ -30,6 +30,12 @@ class Examples(unittest.TestCase):
     def test_point_9(self):
         self.check("point_9.txt", 6)
 
+    def test_point_16(self):
+        self.check("point_16.txt", 7)
+
+    def test_point_22_of_the_module_greedy(self):
+        self.check("point_22_greedy.txt", 5)
+
 
 if __name__ == "__main__":
     unittest.main()

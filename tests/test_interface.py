@@ -14,6 +14,17 @@ FUNCTIONS = {
         product(kind, one, other); how_many_orders(kind, crossings); orders_with(kind, crossings); greatest(kind)""",
     "blocks": """greatest_in(kind, block); steps_in(kind, order); parted(kind, order, block);
         how_many_in(kind, block)""",
+    "rows": """is_row(kind, value); made(kind, row); alike(kind, one, other); crossed(kind, row);
+        crossed_in(kind, order); is_least(kind, row); least_part(kind, row); is_least_part(kind, row, value);
+        out_for(kind, row, step)""",
+    "leastrows": """least_row(kind, order); how_many_least(kind, order); least_number(kind, row);
+        least_numbered(kind, order, number); next_least(kind, row)""",
+    "rowchains": """row_changes(kind, row); row_changed(kind, row, change); row_chain(kind, one, other);
+        is_row_chain(kind, one, other, value)""",
+    "greedy": """gained(kind, order, step); gained_ahead(kind, order, step); greedy(kind, one, other);
+        greedy_all(kind, orders); lost(kind, one, other); halves(kind, one, other); leaves_alone(kind, one, other);
+        how_many_leave(kind, order); power(kind, order, count); settles(kind, order); settled_orders(kind);
+        greedy_row(kind, row); kept(kind, row); kept_behind(kind, row)""",
 }
 
 METHODS = {("kinds", "Kind"): "__init__(self, name, size); name(self); size(self); steps(self); start(self)"}

@@ -1,0 +1,91 @@
+"""Point 3: all functions work up to the limits within seconds."""
+
+import time
+import unittest
+
+from seamlayers import blocks, greedy, leastrows, orders, rowchains, rows
+from seamlayers.errors import TooMany
+
+from tests import reference
+from tests.test_orders import ring_with
+
+# Far above what is needed, so that a slow machine fails no test.
+SECONDS = 10
+
+
+class Limits(unittest.TestCase):
+    def in_time(self, function, *arguments):
+        begun = time.monotonic()
+        try:
+            result = function(*arguments)
+        except TooMany as caught:
+            result = caught.value
+        self.assertLess(time.monotonic() - begun, SECONDS, (function.__name__, arguments))
+        return result
+
+    def great_orders(self, kind):
+        if kind.name() == "ring":
+            return [ring_with(kind.size(), 60), reference.Chance(3).order(kind, 60)]
+        return [orders.greatest(kind)]
+
+    def test_orders_and_blocks(self):
+        for kind in reference.all_kinds():
+            self.in_time(orders.how_many_orders, kind, 200)
+            self.in_time(orders.orders_with, kind, 200)
+            self.in_time(orders.orders_with, kind, 10)
+            steps = list(range(kind.steps()))
+            for function in (blocks.greatest_in, blocks.how_many_in):
+                self.in_time(function, kind, steps)
+                self.in_time(function, kind, steps[1:])
+            for order in self.great_orders(kind):
+                for function in (orders.crossings, orders.falls, orders.heads, orders.opposite, blocks.steps_in):
+                    self.in_time(function, kind, order)
+                self.in_time(orders.product, kind, order, order)
+                self.in_time(blocks.parted, kind, order, steps[1:])
+
+    def test_rows(self):
+        for kind in reference.all_kinds():
+            chance = reference.Chance(99)
+            for row in (chance.row(kind, 100), chance.least_row(kind, 100)):
+                for function in (rows.made, rows.crossed, rows.is_least, rows.least_part, greedy.greedy_row,
+                                 greedy.kept, greedy.kept_behind, rowchains.row_changes):
+                    self.in_time(function, kind, row)
+                self.in_time(rows.is_least_part, kind, row, rows.least_part(kind, row))
+                self.in_time(rowchains.is_row_chain, kind, row, row, [("in", 0, 0), ("out", 0)] * 500)
+            for fall in reference.falls_of(kind, rows.made(kind, row)):
+                self.in_time(rows.out_for, kind, row, fall)
+
+    def test_least_rows(self):
+        for kind in reference.all_kinds():
+            for order in self.great_orders(kind):
+                self.in_time(leastrows.how_many_least, kind, order)
+                row = self.in_time(leastrows.least_row, kind, order)
+                self.in_time(leastrows.least_number, kind, row)
+                self.in_time(leastrows.least_numbered, kind, order, 0)
+                self.in_time(leastrows.next_least, kind, row)
+
+    def test_chains_of_rows_of_twelve_steps(self):
+        for kind in reference.all_kinds():
+            chance = reference.Chance(1212)
+            for _ in range(20):
+                row = chance.least_row(kind, 12)
+                other = reference.down(kind, rows.made(kind, row))
+                chain = self.in_time(rowchains.row_chain, kind, row, other)
+                self.assertIs(self.in_time(rowchains.is_row_chain, kind, row, other, chain), True)
+                row = chance.row(kind, 12)
+                self.in_time(rowchains.row_chain, kind, row, reference.down(kind, rows.made(kind, row)))
+
+    def test_greedy_products(self):
+        for kind in reference.all_kinds():
+            self.in_time(greedy.settled_orders, kind)
+            for order in self.great_orders(kind):
+                for function in (greedy.greedy, greedy.lost, greedy.halves, greedy.leaves_alone):
+                    self.in_time(function, kind, order, order)
+                self.in_time(greedy.greedy_all, kind, [order] * 20)
+                self.in_time(greedy.power, kind, order, 1000)
+                self.in_time(greedy.settles, kind, order)
+                self.in_time(greedy.how_many_leave, kind, order)
+
+
+if __name__ == "__main__":
+    unittest.main()

@@ -1,10 +1,11 @@
 """The checks of arguments that many functions share, in the order of the parameters."""
 
 from seamlayers.blockwork import is_told_block
-from seamlayers.errors import InvalidList, InvalidNumber, InvalidOrder, InvalidRow
+from seamlayers.errors import InvalidList, InvalidNumber, InvalidOrder, InvalidRow, InvalidStanding, Unlike
 from seamlayers.kinds import check_kind
 from seamlayers.orderwork import is_told_order
 from seamlayers.rowwork import is_told_row, makes_no_detour
+from seamlayers.standwork import is_told_standing
 from seamlayers.values import is_count
 
 
@@ -41,3 +42,14 @@ def check_count(number):
     """Refuse what is no count."""
     if not is_count(number):
         raise InvalidNumber(number)
+
+
+def check_standings(kind, *standings):
+    """Refuse what is no kind, then each of the values that is no standing of it, then unlike ones."""
+    check_kind(kind)
+    for standing in standings:
+        if not is_told_standing(kind, standing):
+            raise InvalidStanding(standing)
+    for standing in standings:
+        if len(standing) != len(standings[0]):
+            raise Unlike(standing)

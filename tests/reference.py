@@ -22,39 +22,36 @@ def is_whole(value):
     return type(value) is int
 
 
-def long_row(kind, order):
-    """A dict from places to items, with the step 0 of each kind at its place 0 and 1."""
-    size = kind.size()
-    if kind.name() == "plain":
-        return dict(enumerate(order))
+def item(kind, order, place):
+    """The item of the long row at a place, with the step 0 of each kind at its places 0 and 1."""
+    if kind.name() == "mirror" and place <= 0:
+        return -order[-place]
     if kind.name() == "mirror":
-        here = {at + 1: item for at, item in enumerate(order)}
-        here.update({-at: -item for at, item in enumerate(order)})
-        return here
-    return {at + round_ * size: item + round_ * size for at, item in enumerate(order) for round_ in range(-3, 4)}
+        return order[place - 1]
+    rounds, inside = divmod(place, kind.size())
+    return order[inside] + rounds * kind.size()
 
 
 def exchanged_places(kind, step):
-    """The pairs of places of the long row that a step exchanges."""
+    """The pairs of places of the long row that a step exchanges, the first one alone or one after the other."""
     if kind.name() == "plain":
         return [(step, step + 1)]
     if kind.name() == "mirror":
         return [(step, step + 1)] if step == 0 else [(step, step + 1), (-step, -step + 1)]
-    return [(step + round_ * kind.size(), step + 1 + round_ * kind.size()) for round_ in range(-2, 3)]
+    return [(step + back, step + 1 + back) for back in (0, -kind.size())]
 
 
 def crossed_at(kind, order, step):
     low, high = exchanged_places(kind, step)[0]
-    row = long_row(kind, order)
-    return row[low] > row[high]
+    return item(kind, order, low) > item(kind, order, high)
 
 
 def step_done(kind, order, step):
-    row = long_row(kind, order)
+    other = {}
     for low, high in exchanged_places(kind, step):
-        row[low], row[high] = row[high], row[low]
+        other.update({low: high, high: low})
     first = 1 if kind.name() == "mirror" else 0
-    return [row[at] for at in range(first, first + kind.size())]
+    return [item(kind, order, other.get(at, at)) for at in range(first, first + kind.size())]
 
 
 def row_done(kind, order, row):
@@ -190,8 +187,7 @@ def pairs_crossed(kind, row):
     size = kind.size()
     for step in row:
         places = exchanged_places(kind, step)
-        here = long_row(kind, order)
-        pairs = [tuple(sorted((here[low], here[high]))) for low, high in places if low in here and high in here]
+        pairs = [tuple(sorted((item(kind, order, low), item(kind, order, high)))) for low, high in places]
         if kind.name() == "mirror":
             told.append(pairs[0] if step == 0 else max(pairs, key=lambda pair: abs(pair[1])))
         elif kind.name() == "plain":

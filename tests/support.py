@@ -5,7 +5,7 @@ import copy
 from seamlayers import errors
 from seamlayers.kinds import Kind
 
-from tests import reference
+from tests import reference, standreference
 
 
 def any_values():
@@ -21,6 +21,7 @@ def any_values():
         [None], ["0"], [0, "1"], [[0]], [[0, 1]], [(0,)], [0, None, 2], [[0, 1, 2]], [[1, 2], [2, 1]],
         [10 ** 29, 1 - 10 ** 29], [10 ** 29, 2], [60, -59, 2], [0] * 101, list(range(8)),
         (), (0,), (0, 1), (1, 0), (1, 2), (0, 1, 2), ("out", 0), ("in", 0, 0), ("turn", 0), ([0], [0]),
+        (0, "upper", 0), (0, "lower", 1), [(0, "upper", 0)], [[1, 0, 2], [0, 2, 1]], [[1, 0]] * 2, [[0, 1, 2]] * 9,
         {}, {0: 0}, {0: 1, 1: 0}, {"name": "plain"}, {1: [2]},
         Kind("plain", 3), Kind("mirror", 2), Kind("ring", 2), [Kind("plain", 3)], (Kind("ring", 3),),
         {"kind": Kind("plain", 3)}, errors.InvalidKind(3), errors.SeamError(), [errors.TooMany()], deep,
@@ -82,6 +83,13 @@ def judge_order(kind, value):
         return False
     # Items that are far out would make the walk to the start long.
     return max(abs(item) for item in value) < 100 and len(reference.down(kind, value)) <= 60
+
+
+def judge_standing(kind, value):
+    """Whether a value of the pool is a standing that is taken."""
+    if not (isinstance(value, list) and 1 <= len(value) <= 8 and all(judge_order(kind, layer) for layer in value)):
+        return False
+    return len(reference.down(kind, standreference.whole(kind, value))) <= 60
 
 
 class Refusals:

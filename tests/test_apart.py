@@ -2,7 +2,7 @@
 
 import unittest
 
-from seamlayers import blocks, greedy, leastrows, orders, rowchains, rows
+from seamlayers import blocks, greedy, greedychains, joining, leastrows, orders, rowchains, rows, standings, unfolding
 from seamlayers.kinds import Kind, wait
 
 from tests.support import Apart
@@ -16,6 +16,12 @@ ORDERS = [(PLAIN, [2, 0, 1], [1, 0, 2]), (PLAIN, [0, 1, 2], [0, 1, 2]), (WIDE, [
 # Each with an order, and with a row that makes it.
 ROWS = [(PLAIN, [2, 1, 0], [0, 1, 0]), (PLAIN, [1, 2, 0], [0, 0, 0, 1]), (WIDE, [1, 3, 0, 2], [0, 2, 1]),
         (MIRROR, [-1, -2], [1, 0, 1, 0]), (RING, [0, -1, 4], [2, 0, 2]), (PAIR, [3, -2], [0, 1, 0, 1, 1])]
+
+# Each with a standing, and with a joined one.
+STANDINGS = [(PLAIN, [[1, 0, 2], [0, 2, 1]], [[1, 2, 0], [0, 1, 2]]), (PLAIN, [[0, 1, 2]], [[0, 1, 2]]),
+             (WIDE, [[3, 2, 1, 0]] * 3, [[0, 1, 2, 3], [3, 2, 1, 0], [0, 1, 2, 3]]),
+             (MIRROR, [[-1, 2], [1, 2], [-1, 2]], [[1, 2], [-1, 2], [1, 2]]),
+             (RING, [[-1, 0, 4], [0, 1, 2]], [[-1, 0, 4], [-1, 0, 4]]), (PAIR, [[3, -2]], [[3, -2]])]
 
 
 class Calls(unittest.TestCase, Apart):
@@ -92,6 +98,48 @@ class Calls(unittest.TestCase, Apart):
             for function in (greedy.how_many_leave, greedy.settles):
                 self.assert_apart(function, (kind, one))
             self.assert_apart(greedy.settled_orders, (kind,))
+
+    def test_greedy_chains(self):
+        for kind, order, row in ROWS:
+            for other in (row, row + row[-1:], [0], [1, 1] + row):
+                self.assert_apart(greedychains.greedily_alike, (kind, row, other))
+                self.assert_apart(greedychains.chain, (kind, row, other))
+                for value in ([row], [row, other], [], [[0], [0, 0]], None):
+                    self.assert_apart(greedychains.is_chain, (kind, row, other, value))
+
+    def test_unfolding(self):
+        for order in ([-1], [2, -1], [-3, 1, 2]):
+            self.assert_apart(unfolding.unfolded, (order, len(order)))
+            self.assert_apart(unfolding.folded, (unfolding.unfolded(order, len(order)), len(order)))
+        self.assert_apart(unfolding.folded, ([1, 0, 2, 3], 2))
+
+    def test_standings(self):
+        for kind, one, other in STANDINGS:
+            for standing in (one, other):
+                for function in (standings.is_standing, standings.whole, standings.wholes, standings.turned,
+                                 standings.deeds, joining.uppermost, joining.lowermost):
+                    self.assert_apart(function, (kind, standing))
+                for deed in standings.deeds(kind, standing):
+                    self.assert_apart(standings.done, (kind, standing, deed))
+                    self.assert_apart(standings.led, (kind, standing, [deed, deed]))
+                self.assert_apart(standings.led, (kind, standing, []))
+
+    def test_joining(self):
+        for kind, one, other in STANDINGS:
+            for first, second in ((one, other), (other, one), (one, one), (one, one[::-1])):
+                self.assert_apart(joining.joined, (kind, first, second))
+                self.assert_apart(joining.way, (kind, first, second))
+                for value in (joining.way(kind, first, second), [], [(0, "upper", 0)], None):
+                    self.assert_apart(joining.is_way, (kind, first, second, value))
+                for seams in ([], list(range(len(one) - 1))):
+                    self.assert_apart(joining.joined_at, (kind, first, second, seams))
+                    self.assert_apart(joining.way_at, (kind, first, second, seams))
+
+    def test_one_list_for_all_layers(self):
+        for kind, one, _ in ORDERS:
+            for function in (standings.wholes, standings.turned, joining.uppermost):
+                self.assert_apart(lambda kind, order, told=function: told(kind, [order] * 3), (kind, one))
+            self.assert_apart(lambda kind, order: standings.led(kind, [order] * 3, []), (kind, one))
 
     def test_one_list_for_both_orders(self):
         for kind, one, _ in ORDERS:

@@ -33,8 +33,11 @@ class Examples(unittest.TestCase):
     def test_point_16(self):
         self.check("point_16.txt", 7)
 
-    def test_point_22_of_the_module_greedy(self):
-        self.check("point_22_greedy.txt", 5)
+    def test_point_22(self):
+        self.check("point_22.txt", 7)
+
+    def test_point_29_but_for_the_module_nearest(self):
+        self.check("point_29_joining.txt", 4)
 
 
 if __name__ == "__main__":

@@ -25,6 +25,13 @@ FUNCTIONS = {
         greedy_all(kind, orders); lost(kind, one, other); halves(kind, one, other); leaves_alone(kind, one, other);
         how_many_leave(kind, order); power(kind, order, count); settles(kind, order); settled_orders(kind);
         greedy_row(kind, row); kept(kind, row); kept_behind(kind, row)""",
+    "greedychains": "greedily_alike(kind, one, other); chain(kind, one, other); is_chain(kind, one, other, value)",
+    "unfolding": "unfolded(order, size); folded(order, size)",
+    "standings": """is_standing(kind, value); whole(kind, standing); wholes(kind, standing); turned(kind, standing);
+        deeds(kind, standing); done(kind, standing, deed); led(kind, standing, deeds)""",
+    "joining": """joined(kind, one, other); way(kind, one, other); is_way(kind, one, other, value);
+        uppermost(kind, standing); lowermost(kind, standing); joined_at(kind, one, other, seams);
+        way_at(kind, one, other, seams)""",
 }
 
 METHODS = {("kinds", "Kind"): "__init__(self, name, size); name(self); size(self); steps(self); start(self)"}

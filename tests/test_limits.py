@@ -3,10 +3,11 @@
 import time
 import unittest
 
-from seamlayers import blocks, greedy, leastrows, orders, rowchains, rows
+from seamlayers import blocks, greedy, greedychains, joining, leastrows, orders, rowchains, rows, standings
 from seamlayers.errors import TooMany
 
 from tests import reference
+from tests.test_joining import great_standings
 from tests.test_orders import ring_with
 
 # Far above what is needed, so that a slow machine fails no test.
@@ -85,6 +86,30 @@ class Limits(unittest.TestCase):
                 self.in_time(greedy.power, kind, order, 1000)
                 self.in_time(greedy.settles, kind, order)
                 self.in_time(greedy.how_many_leave, kind, order)
+
+    def test_greedy_chains_of_rows_of_twelve_steps(self):
+        for kind in reference.all_kinds():
+            chance = reference.Chance(2121)
+            for _ in range(20):
+                row = chance.least_row(kind, 12)
+                for one in (row, chance.row(kind, 12)):
+                    other = reference.down(kind, greedy.greedy_row(kind, one))
+                    chain = self.in_time(greedychains.chain, kind, one, other)
+                    self.assertIs(self.in_time(greedychains.is_chain, kind, one, other, chain), True)
+
+    def test_standings_of_eight_layers(self):
+        for kind in reference.all_kinds():
+            told = great_standings(kind)
+            for one in told:
+                for function in (standings.is_standing, standings.whole, standings.wholes, standings.turned,
+                                 standings.deeds, joining.uppermost, joining.lowermost):
+                    self.in_time(function, kind, one)
+                for other in told:
+                    way = self.in_time(joining.way, kind, one, other)
+                    self.assertIs(self.in_time(joining.is_way, kind, one, other, way), True)
+                    self.assertEqual(self.in_time(standings.led, kind, one, way), other)
+                    self.in_time(joining.way_at, kind, one, other, list(range(7)))
+                    self.in_time(joining.joined_at, kind, one, other, [0, 2, 4])
 
 
 if __name__ == "__main__":

@@ -4,8 +4,8 @@ from seamlayers.checks import check_least, check_orders, check_rows
 from seamlayers.errors import InvalidNumber
 from seamlayers.kinds import check_kind, is_step
 from seamlayers.orderwork import is_crossed
-from seamlayers.rowwork import crossed_by, first_least, is_told_row, least_places, made_by, makes_no_detour
-from seamlayers.values import are_whole, is_rising
+from seamlayers.rowwork import are_places, crossed_by, first_least, is_told_row, least_places, made_by
+from seamlayers.rowwork import makes_no_detour
 
 
 def is_row(kind, value):
@@ -53,9 +53,7 @@ def least_part(kind, row):
 def is_least_part(kind, row, value):
     """Tell whether a value is a rising list of places as `least_part` returns them."""
     check_rows(kind, row)
-    if not (isinstance(value, list) and are_whole(value) and is_rising(value)):
-        return False
-    if value and not (value[0] >= 0 and value[-1] < len(row)):
+    if not are_places(row, value):
         return False
     steps = [row[place] for place in value]
     return makes_no_detour(kind, steps) and made_by(kind, steps) == made_by(kind, row)

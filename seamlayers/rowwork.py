@@ -6,6 +6,7 @@ off an order is to do a fall of its opposite, and this is the cheaper one.
 
 from seamlayers.kinds import is_step
 from seamlayers.orderwork import after_step, count_crossings, exchanged, falls_of, is_crossed, opposite_of
+from seamlayers.values import are_whole, is_rising
 
 MOST_STEPS = 100
 
@@ -15,6 +16,13 @@ def is_told_row(kind, value):
     if not (isinstance(value, list) and len(value) <= MOST_STEPS):
         return False
     return all([is_step(kind, step) for step in value])
+
+
+def are_places(row, value):
+    """Tell whether a value is a rising list of places of a row."""
+    if not (isinstance(value, list) and are_whole(value) and is_rising(value)):
+        return False
+    return not value or (value[0] >= 0 and value[-1] < len(row))
 
 
 def made_by(kind, row):

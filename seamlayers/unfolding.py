@@ -2,6 +2,7 @@
 
 from seamlayers.errors import InvalidNumber, InvalidOrder
 from seamlayers.kinds import Kind
+from seamlayers.longwork import with_negatives
 from seamlayers.orderwork import is_told_order
 from seamlayers.values import is_whole
 
@@ -11,9 +12,8 @@ MOST_SIZE = 3
 def unfolded(order, size):
     """Return the plain order of twice the size that a mirror order unfolds to."""
     _check_order(order, "mirror", size, 1)
-    items = [-item for item in reversed(order)] + order
     # There is no item 0: those above it have one rank less than their distance from the least.
-    return [item + size if item < 0 else item + size - 1 for item in items]
+    return [item + size if item < 0 else item + size - 1 for item in with_negatives(order)]
 
 
 def folded(order, size):

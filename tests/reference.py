@@ -271,9 +271,14 @@ def changes_of(kind, row):
     return found
 
 
+def made_by_parts(kind, row):
+    """The set of the orders, as tuples, that parts of a row make."""
+    found = {tuple(start(kind))}
+    for step in row:
+        found |= {tuple(step_done(kind, list(order), step)) for order in found}
+    return found
+
+
 def is_beneath(kind, one, other):
     """Whether some part of a least row that makes `other` makes `one`."""
-    found = {tuple(start(kind))}
-    for step in down(kind, other):
-        found |= {tuple(step_done(kind, list(order), step)) for order in found}
-    return tuple(one) in found
+    return tuple(one) in made_by_parts(kind, down(kind, other))

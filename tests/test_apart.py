@@ -2,7 +2,8 @@
 
 import unittest
 
-from seamlayers import blocks, greedy, greedychains, joining, leastrows, orders, rowchains, rows, standings, unfolding
+from seamlayers import beneath, blocks, greedy, greedychains, joining, lacking, leastrows, lower, nearest, orders
+from seamlayers import rowchains, rows, standings, unfolding
 from seamlayers.kinds import Kind, wait
 
 from tests.support import Apart
@@ -135,9 +136,62 @@ class Calls(unittest.TestCase, Apart):
                     self.assert_apart(joining.joined_at, (kind, first, second, seams))
                     self.assert_apart(joining.way_at, (kind, first, second, seams))
 
+    def test_nearest(self):
+        for kind, one, other in STANDINGS:
+            for standing in (one, other):
+                for function in (nearest.far_above, nearest.far_below, nearest.nearer, nearest.partner,
+                                 nearest.way_up, nearest.how_many_up):
+                    self.assert_apart(function, (kind, standing))
+                self.assert_apart(nearest.up_numbered, (kind, standing, 0))
+            for first, second in ((one, other), (other, one), (one, one), (one, one[::-1])):
+                for function in (nearest.odd, nearest.seam_needs, nearest.bounds):
+                    self.assert_apart(function, (kind, first, second))
+                # From great layers to others more than 500 standings are led to by fewer deeds.
+                if kind != WIDE or first == second:
+                    self.assert_apart(nearest.fewest, (kind, first, second))
+
+    def test_beneath(self):
+        for kind, one, other in ORDERS:
+            for first, second in ((one, other), (other, one), (one, one)):
+                self.assert_apart(beneath.is_beneath, (kind, first, second))
+                self.assert_apart(beneath.barred_cell, (kind, first, second))
+                for value in ((0, 1), (1, 1), [0, 1], None):
+                    self.assert_apart(beneath.is_barred, (kind, first, second, value))
+            self.assert_apart(beneath.ahead, (kind, one, 1, 1))
+        for kind, order, row in ROWS:
+            self.assert_apart(beneath.part, (kind, order, row))
+            for value in (beneath.part(kind, order, row), [], [0], None):
+                self.assert_apart(beneath.is_part, (kind, order, row, value))
+
+    def test_lower(self):
+        for kind, one, other in ORDERS:
+            for function in (lower.next_below, lower.next_above, lower.how_many_beneath):
+                self.assert_apart(function, (kind, one))
+            for first, second in ((one, other), (other, one), (one, one), (kind.start(), one)):
+                for function in (lower.climb, lower.how_many_between):
+                    self.assert_apart(function, (kind, first, second))
+                for value in (lower.climb(kind, first, second), [first], [first, second], None):
+                    self.assert_apart(lower.is_climb, (kind, first, second, value))
+                self.assert_apart(lower.beneath_number, (kind, first, second))
+                for order in (first, second, kind.start()):
+                    self.assert_apart(lower.factors, (kind, order, first, second))
+                    for value in ((first, second), (order, order), [order], None):
+                        self.assert_apart(lower.are_factors, (kind, order, first, second, value))
+            self.assert_apart(lower.beneath_numbered, (kind, one, 0))
+            for block in ([], [0], list(range(kind.steps()))):
+                self.assert_apart(lower.held_in, (kind, one, block))
+
+    def test_lacking(self):
+        for kind, one, other in ORDERS:
+            for first, second in ((one, other), (other, one), (one, one), (kind.start(), one)):
+                self.assert_apart(lacking.lacking, (kind, first, second))
+                self.assert_apart(lacking.lacking_ahead, (kind, first, second))
+                self.assert_apart(lacking.lacking_between, (kind, first, second, one))
+                self.assert_apart(lacking.lacking_between, (kind, kind.start(), kind.start(), one))
+
     def test_one_list_for_all_layers(self):
         for kind, one, _ in ORDERS:
-            for function in (standings.wholes, standings.turned, joining.uppermost):
+            for function in (standings.wholes, standings.turned, joining.uppermost, nearest.partner):
                 self.assert_apart(lambda kind, order, told=function: told(kind, [order] * 3), (kind, one))
             self.assert_apart(lambda kind, order: standings.led(kind, [order] * 3, []), (kind, one))
 
@@ -146,6 +200,8 @@ class Calls(unittest.TestCase, Apart):
             self.assert_apart(lambda kind, order: orders.product(kind, order, order), (kind, one))
             self.assert_apart(lambda kind, order: greedy.halves(kind, order, order), (kind, one))
             self.assert_apart(lambda kind, order: greedy.greedy_all(kind, [order, order]), (kind, one))
+            self.assert_apart(lambda kind, order: lower.climb(kind, order, order), (kind, one))
+            self.assert_apart(lambda kind, order: lower.factors(kind, order, order, order), (kind, one))
 
 
 if __name__ == "__main__":

@@ -36,8 +36,14 @@ class Examples(unittest.TestCase):
     def test_point_22(self):
         self.check("point_22.txt", 7)
 
-    def test_point_29_but_for_the_module_nearest(self):
-        self.check("point_29_joining.txt", 4)
+    def test_point_29(self):
+        self.check("point_29.txt", 7)
+
+    def test_point_36(self):
+        self.check("point_36.txt", 6)
+
+    def test_point_42_of_the_module_lacking(self):
+        self.check("point_42_lacking.txt", 2)
 
 
 if __name__ == "__main__":

@@ -32,6 +32,17 @@ FUNCTIONS = {
     "joining": """joined(kind, one, other); way(kind, one, other); is_way(kind, one, other, value);
         uppermost(kind, standing); lowermost(kind, standing); joined_at(kind, one, other, seams);
         way_at(kind, one, other, seams)""",
+    "nearest": """far_above(kind, standing); far_below(kind, standing); nearer(kind, standing); way_up(kind, standing);
+        how_many_up(kind, standing); up_numbered(kind, standing, number); odd(kind, one, other);
+        seam_needs(kind, one, other); bounds(kind, one, other); fewest(kind, one, other); partner(kind, standing)""",
+    "beneath": """is_beneath(kind, one, other); part(kind, order, row); is_part(kind, order, row, value);
+        ahead(kind, order, cut, number); barred_cell(kind, one, other); is_barred(kind, one, other, value)""",
+    "lower": """next_below(kind, order); next_above(kind, order); climb(kind, one, other);
+        is_climb(kind, one, other, value); how_many_beneath(kind, order); beneath_numbered(kind, order, number);
+        beneath_number(kind, order, value); how_many_between(kind, one, other); held_in(kind, order, block);
+        factors(kind, order, one, other); are_factors(kind, order, one, other, value)""",
+    "lacking": """lacking(kind, order, goal); lacking_ahead(kind, order, goal);
+        lacking_between(kind, ahead, behind, goal)""",
 }
 
 METHODS = {("kinds", "Kind"): "__init__(self, name, size); name(self); size(self); steps(self); start(self)"}

@@ -3,10 +3,12 @@
 import time
 import unittest
 
-from seamlayers import blocks, greedy, greedychains, joining, leastrows, orders, rowchains, rows, standings
+from seamlayers import beneath, blocks, greedy, greedychains, joining, lacking, leastrows, lower, nearest, orders
+from seamlayers import rowchains, rows, standings
 from seamlayers.errors import TooMany
 
 from tests import reference
+from tests.test_beneath import great_orders
 from tests.test_joining import great_standings
 from tests.test_orders import ring_with
 
@@ -110,6 +112,56 @@ class Limits(unittest.TestCase):
                     self.assertEqual(self.in_time(standings.led, kind, one, way), other)
                     self.in_time(joining.way_at, kind, one, other, list(range(7)))
                     self.in_time(joining.joined_at, kind, one, other, [0, 2, 4])
+
+    def test_distances_of_standings_of_eight_layers(self):
+        for kind in reference.all_kinds():
+            told = great_standings(kind)
+            for one in told:
+                for function in (nearest.far_above, nearest.far_below, nearest.nearer, nearest.partner):
+                    self.in_time(function, kind, one)
+                for other in told:
+                    for function in (nearest.odd, nearest.seam_needs, nearest.bounds):
+                        self.in_time(function, kind, one, other)
+            # The lowermost standing, one in between, and one that deeds have led away from it.
+            for one, other in ((told[1], told[0]), (told[2], told[5]), (told[4], told[1])):
+                self.in_time(nearest.way_up, kind, one)
+                self.in_time(nearest.how_many_up, kind, one)
+                self.in_time(nearest.up_numbered, kind, one, 0)
+                self.in_time(nearest.fewest, kind, one, other)
+
+    def test_great_orders_beneath_one_another(self):
+        for kind in reference.all_kinds():
+            told = great_orders(kind)
+            row = reference.Chance(100).row(kind, 100)
+            for one in told:
+                self.in_time(lower.next_below, kind, one)
+                self.in_time(lower.next_above, kind, one)
+                self.in_time(lower.held_in, kind, one, list(range(kind.steps()))[1:])
+                self.in_time(beneath.part, kind, one, row)
+                for other in told[::3]:
+                    for function in (beneath.is_beneath, beneath.barred_cell, lower.climb, lacking.lacking,
+                                     lacking.lacking_ahead):
+                        self.in_time(function, kind, one, other)
+                    self.in_time(lower.factors, kind, one, other, other)
+                    self.in_time(lacking.lacking_between, kind, one, one, other)
+
+    def test_ten_thousand_orders_beneath_one(self):
+        for kind in reference.all_kinds():
+            row = reference.Chance(34).least_row(kind, {3: 60, 4: 29, 5: 23}.get(kind.size(), 60))
+            order = rows.made(kind, row)
+            many = sum(self.in_time(lower.how_many_beneath, kind, order))
+            if kind.name() == "ring" and kind.size() > 2 or kind.size() == 7:
+                self.assertGreater(many, 3000)
+            last = self.in_time(lower.beneath_numbered, kind, order, many - 1)
+            self.assertEqual(self.in_time(lower.beneath_number, kind, order, last), many - 1)
+
+    def test_two_thousand_orders_beneath_one(self):
+        for kind in reference.all_kinds():
+            row = reference.Chance(35).least_row(kind, {3: 42, 4: 19, 5: 16, 7: 13}.get(kind.size(), 60))
+            order = rows.made(kind, row)
+            found = self.in_time(lower.how_many_between, kind, kind.start(), order)
+            self.assertEqual(found, lower.how_many_beneath(kind, order))
+            self.in_time(lower.how_many_between, kind, rows.made(kind, row[:1]), order)
 
 
 if __name__ == "__main__":

@@ -1,0 +1,78 @@
+"""What lies beneath an order, without checks."""
+
+from seamlayers.orderwork import after_step, count_crossings, is_crossed, opposite_of, product_of
+from seamlayers.rowwork import crossed_by, first_least
+
+
+def places_of(kind, order, row):
+    """Return the places of steps of a row that are a least row that makes an order, or None."""
+    places = []
+    # From behind, each fall can be taken off as soon as it comes: what is beneath stays so.
+    for at in range(len(row) - 1, -1, -1):
+        if is_crossed(kind, order, row[at]):
+            places.append(at)
+            order = after_step(kind, order, row[at])
+    return places[::-1] if order == kind.start() else None
+
+
+def lies_beneath(kind, one, other):
+    """Tell whether an order is beneath another one."""
+    return places_of(kind, one, first_least(kind, other)) is not None
+
+
+def all_beneath(kind, order):
+    """Return a dict from all orders beneath an order, as tuples, to their crossings."""
+    found = {tuple(kind.start()): 0}
+    for step in first_least(kind, order):
+        for here, many in list(found.items()):
+            if not is_crossed(kind, here, step):
+                found[tuple(after_step(kind, here, step))] = many + 1
+    return found
+
+
+def exchange_of(kind, one, other):
+    """Return the order that exchanges two numbers, with all that go with them, and leaves the others."""
+    moved = kind.start()
+    if kind.name() == "mirror":
+        for low, high in ((one, other), (other, one)):
+            moved[abs(low) - 1] = high if low > 0 else -high
+        return moved
+    for low, high in ((one, other), (other, one)):
+        inside = low % kind.size()
+        moved[inside] = high - low + inside
+    return moved
+
+
+def next_under(kind, order):
+    """Return the orders beneath an order that have one crossing less, in order."""
+    pairs = crossed_by(kind, first_least(kind, order))
+    return _exchanged(kind, order, pairs, count_crossings(kind, order) - 1)
+
+
+def next_over(kind, order):
+    """Return the orders that an order is beneath and that have one crossing more, in order."""
+    return _exchanged(kind, order, _pairs_to_cross(kind, order), count_crossings(kind, order) + 1)
+
+
+def _exchanged(kind, order, pairs, crossings):
+    """Return the orders with so many crossings in which two numbers of an order are exchanged, in order."""
+    told = [product_of(kind, exchange_of(kind, low, high), order) for low, high in pairs]
+    return sorted([moved for moved in told if count_crossings(kind, moved) == crossings])
+
+
+def _pairs_to_cross(kind, order):
+    """Return pairs of numbers, those among them that one crossing more may come of."""
+    size = kind.size()
+    if kind.name() == "plain":
+        return [(low, high) for high in range(size) for low in range(high)]
+    if kind.name() == "mirror":
+        return [(low, high) for high in range(1, size + 1) for low in range(-high, high) if low != 0]
+    # Two numbers of a ring that differ by more than the size, and stand further apart than it, cross more at once.
+    flipped = opposite_of(kind, order)
+    pairs = [(low, high) for low in range(size) for high in range(low + 1, low + size)]
+    for low in range(size):
+        for place in range(flipped[low] + 1, flipped[low] + size):
+            high = order[place % size] + place - place % size
+            if high >= low + size:
+                pairs.append((low, high))
+    return pairs

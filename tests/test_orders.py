@@ -251,7 +251,36 @@ def multiplied(one, other):
     return found
 
 
+def walked_up(kind, most):
+    """For 0, 1, 2, .. crossings, up to a number, all orders, in order: each by one step more from one ahead."""
+    here = [tuple(kind.start())]
+    for _ in range(most + 1):
+        yield [list(order) for order in sorted(here)]
+        here = {tuple(reference.step_done(kind, order, step)) for order in here for step in range(kind.steps())
+                if not reference.crossed_at(kind, order, step)}
+
+
 class OrdersWith(unittest.TestCase):
+    def test_all_numbers_of_crossings_whose_orders_are_listed(self):
+        for kind in reference.all_kinds():
+            # Up to the limit, or up to where there are more than 1,000 orders, or to one beyond the greatest.
+            most = {4: 22, 5: 10}.get(kind.size(), 200) if kind.name() == "ring" else 26
+            for many, told in enumerate(walked_up(kind, most)):
+                found = orders_with(kind, many)
+                self.assertEqual(found, told, (kind.name(), kind.size(), many))
+                self.assertEqual(len(found), how_many_orders(kind, many))
+            if kind.name() == "ring" and kind.size() > 3:
+                with self.assertRaises(TooMany):
+                    orders_with(kind, most + 1)
+
+    def test_the_greatest_numbers_of_crossings(self):
+        self.assertEqual(orders_with(Kind("plain", 7), 21), [[6, 5, 4, 3, 2, 1, 0]])
+        self.assertEqual(orders_with(Kind("plain", 7), 22), [])
+        self.assertEqual(orders_with(Kind("mirror", 5), 25), [[-1, -2, -3, -4, -5]])
+        self.assertEqual(orders_with(Kind("mirror", 5), 26), [])
+        found = orders_with(Kind("ring", 5), 10)
+        self.assertEqual([len(found), found[0], found[-1]], [875, [-10, 3, 4, 6, 7], [10, -2, -1, 1, 2]])
+
     def test_levels(self):
         for kind in reference.all_kinds():
             for many, level in enumerate(reference.levels(kind, min(many_up_to(kind), 7))):

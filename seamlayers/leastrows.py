@@ -4,8 +4,9 @@ They are counted over the orders that are come to by taking heads off. Of these
 the opposites are kept: to take a head off is then to do a fall.
 """
 
+from seamlayers.beginwork import levels_down
 from seamlayers.checks import check_count, check_least, check_orders
-from seamlayers.errors import InvalidNumber, TooMany
+from seamlayers.errors import InvalidNumber
 from seamlayers.orderwork import after_step, falls_of, opposite_of
 from seamlayers.rowwork import first_down, first_least, made_by
 
@@ -73,26 +74,10 @@ def next_least(kind, row):
     return None
 
 
-def _levels_down(kind, flipped):
-    """Return the orders that are come to by falls, by their distance, each once."""
-    levels = [{tuple(flipped): True}]
-    many = 1
-    while levels[-1]:
-        found = {}
-        for order in levels[-1]:
-            for fall in falls_of(kind, order):
-                found[tuple(after_step(kind, order, fall))] = True
-        levels.append(found)
-        many += len(found)
-        if many > MOST_COUNTED:
-            raise TooMany(MOST_COUNTED + 1)
-    return levels
-
-
 def _counts_down(kind, flipped):
     """Return for each order come to by falls in how many ways falls lead from it to the start."""
     counts = {tuple(kind.start()): 1}
-    for level in reversed(_levels_down(kind, flipped)):
+    for level in reversed(levels_down(kind, flipped, MOST_COUNTED)):
         for order in level:
             if order not in counts:
                 counts[order] = sum([counts[tuple(after_step(kind, order, fall))] for fall in falls_of(kind, order)])

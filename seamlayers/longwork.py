@@ -1,5 +1,6 @@
 """Long rows of orders, and what stands ahead of cuts of them, without checks."""
 
+from seamlayers.orderwork import item_at
 from seamlayers.values import is_whole
 
 
@@ -29,3 +30,18 @@ def many_ahead(kind, order, cut, number):
         last = item + (cut - 1 - place) // kind.size() * kind.size()
         many += max(0, (last - number) // kind.size() + 1)
     return many
+
+
+def is_number(kind, value):
+    """Tell whether a value is a number of the long rows of a kind."""
+    if not is_whole(value):
+        return False
+    if kind.name() == "mirror":
+        return 1 <= abs(value) <= kind.size()
+    return kind.name() == "ring" or 0 <= value < kind.size()
+
+
+def are_crossed(kind, flipped, low, high):
+    """Tell whether two numbers are crossed by the order whose opposite is told."""
+    # The opposite tells at which places the numbers stand.
+    return item_at(kind, flipped, high) < item_at(kind, flipped, low)

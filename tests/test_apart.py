@@ -2,8 +2,8 @@
 
 import unittest
 
-from seamlayers import beneath, blocks, greedy, greedychains, joining, lacking, leastrows, lower, nearest, orders
-from seamlayers import rowchains, rows, standings, unfolding
+from seamlayers import beginnings, beneath, blocks, greedy, greedychains, joining, lacking, leastrows, lower, nearest
+from seamlayers import orders, pairs, rowchains, rows, solving, standcounts, standings, unfolding
 from seamlayers.kinds import Kind, wait
 
 from tests.support import Apart
@@ -189,6 +189,41 @@ class Calls(unittest.TestCase, Apart):
                 self.assert_apart(lacking.lacking_between, (kind, first, second, one))
                 self.assert_apart(lacking.lacking_between, (kind, kind.start(), kind.start(), one))
 
+    def test_pairs_and_beginnings(self):
+        for kind, one, other in ORDERS:
+            low, high = (-1, 1) if kind.name() == "mirror" else (0, 1)
+            self.assert_apart(pairs.pair_crossed, (kind, one, low, high))
+            for first, second in ((one, other), (other, one), (one, one), (kind.start(), one)):
+                for function in (beginnings.begins, beginnings.ends, beginnings.rest, beginnings.rest_ahead,
+                                 beginnings.apart, beginnings.greatest_beginning, beginnings.greatest_ending,
+                                 beginnings.least_going_on, beginnings.least_ended, beginnings.round_of):
+                    self.assert_apart(function, (kind, first, second))
+                for value in ((low, high), [low, high], [0, 2, 3], None):
+                    self.assert_apart(beginnings.is_apart, (kind, first, second, value))
+                    self.assert_apart(beginnings.is_round, (kind, first, second, value))
+            for function in (beginnings.beginnings, beginnings.how_many_beginnings):
+                self.assert_apart(function, (kind, one))
+        for kind, one, other in ((RING, [1, 2, 0], [-1, 1, 3]), (PAIR, [1, 0], [-1, 2])):
+            self.assert_apart(beginnings.round_of, (kind, one, other))
+
+    def test_solving(self):
+        for kind, one, other in ORDERS:
+            for order, goal in ((one, other), (other, one), (one, one), (kind.start(), one)):
+                for function in (solving.solvable, solving.least_solution, solving.solutions, solving.solutions_ahead,
+                                 solving.how_many_solutions, solving.greatest_solutions):
+                    self.assert_apart(function, (kind, order, goal))
+
+    def test_standings_counted(self):
+        for kind, one, _ in ORDERS:
+            for order in (one, kind.start()):
+                for function in (standcounts.standing_powers, standcounts.standing_rule):
+                    self.assert_apart(function, (kind, order))
+                for layers in (0, 1, 3):
+                    for function in (standcounts.how_many_standings, standcounts.how_many_within,
+                                     standcounts.standings_by_crossings, standcounts.standings_by_deeds):
+                        self.assert_apart(function, (kind, layers, order))
+                    self.assert_apart(standcounts.standings_rest, (kind, layers, order, 7))
+
     def test_one_list_for_all_layers(self):
         for kind, one, _ in ORDERS:
             for function in (standings.wholes, standings.turned, joining.uppermost, nearest.partner):
@@ -201,6 +236,9 @@ class Calls(unittest.TestCase, Apart):
             self.assert_apart(lambda kind, order: greedy.halves(kind, order, order), (kind, one))
             self.assert_apart(lambda kind, order: greedy.greedy_all(kind, [order, order]), (kind, one))
             self.assert_apart(lambda kind, order: lower.climb(kind, order, order), (kind, one))
+            self.assert_apart(lambda kind, order: beginnings.greatest_beginning(kind, order, order), (kind, one))
+            self.assert_apart(lambda kind, order: beginnings.least_going_on(kind, order, order), (kind, one))
+            self.assert_apart(lambda kind, order: solving.solutions(kind, order, order), (kind, one))
             self.assert_apart(lambda kind, order: lower.factors(kind, order, order, order), (kind, one))
 
 

@@ -42,8 +42,11 @@ class Examples(unittest.TestCase):
     def test_point_36(self):
         self.check("point_36.txt", 6)
 
-    def test_point_42_of_the_module_lacking(self):
-        self.check("point_42_lacking.txt", 2)
+    def test_point_42(self):
+        self.check("point_42.txt", 9)
+
+    def test_point_46_of_the_module_standcounts(self):
+        self.check("point_46_standcounts.txt", 3)
 
 
 if __name__ == "__main__":

@@ -41,6 +41,18 @@ FUNCTIONS = {
         is_climb(kind, one, other, value); how_many_beneath(kind, order); beneath_numbered(kind, order, number);
         beneath_number(kind, order, value); how_many_between(kind, one, other); held_in(kind, order, block);
         factors(kind, order, one, other); are_factors(kind, order, one, other, value)""",
+    "pairs": "pair_crossed(kind, order, low, high)",
+    "beginnings": """begins(kind, one, other); ends(kind, one, other); rest(kind, one, other);
+        rest_ahead(kind, one, other); apart(kind, one, other); is_apart(kind, one, other, value);
+        greatest_beginning(kind, one, other); greatest_ending(kind, one, other); beginnings(kind, order);
+        how_many_beginnings(kind, order); least_going_on(kind, one, other); least_ended(kind, one, other);
+        round_of(kind, one, other); is_round(kind, one, other, value)""",
+    "solving": """solvable(kind, order, goal); least_solution(kind, order, goal); solutions(kind, order, goal);
+        how_many_solutions(kind, order, goal); greatest_solutions(kind, order, goal);
+        solutions_ahead(kind, order, goal)""",
+    "standcounts": """how_many_standings(kind, layers, order); standings_rest(kind, layers, order, modulus);
+        how_many_within(kind, layers, order); standing_powers(kind, order); standing_rule(kind, order);
+        standings_by_crossings(kind, layers, order); standings_by_deeds(kind, layers, order)""",
     "lacking": """lacking(kind, order, goal); lacking_ahead(kind, order, goal);
         lacking_between(kind, ahead, behind, goal)""",
 }

@@ -3,8 +3,8 @@
 import time
 import unittest
 
-from seamlayers import beneath, blocks, greedy, greedychains, joining, lacking, leastrows, lower, nearest, orders
-from seamlayers import rowchains, rows, standings
+from seamlayers import beginnings, beneath, blocks, greedy, greedychains, joining, lacking, leastrows, lower, nearest
+from seamlayers import orders, rowchains, rows, solving, standcounts, standings
 from seamlayers.errors import TooMany
 from seamlayers.kinds import Kind
 
@@ -172,6 +172,72 @@ class Limits(unittest.TestCase):
             found = self.in_time(lower.how_many_between, kind, kind.start(), order)
             self.assertEqual(found, lower.how_many_beneath(kind, order))
             self.in_time(lower.how_many_between, kind, rows.made(kind, row[:1]), order)
+
+    def test_great_orders_that_begin_one_another(self):
+        for kind in reference.all_kinds():
+            for one in great_orders(kind):
+                self.in_time(beginnings.how_many_beginnings, kind, one)
+                self.in_time(beginnings.beginnings, kind, one)
+                for other in great_orders(kind)[::2]:
+                    for function in (beginnings.begins, beginnings.ends, beginnings.rest, beginnings.rest_ahead,
+                                     beginnings.apart, beginnings.greatest_beginning, beginnings.greatest_ending,
+                                     beginnings.least_going_on, beginnings.least_ended, beginnings.round_of):
+                        self.in_time(function, kind, one, other)
+
+    def test_goals(self):
+        for kind in reference.all_kinds():
+            row = reference.Chance(42).least_row(kind, 10 if kind.name() == "ring" else 25)
+            goal = rows.made(kind, row)
+            for many in (0, 1, len(row) // 2, len(row)):
+                order = rows.made(kind, row[:many])
+                for function in (solving.solvable, solving.least_solution, solving.solutions,
+                                 solving.how_many_solutions, solving.greatest_solutions):
+                    self.in_time(function, kind, order, goal)
+                self.in_time(solving.solutions_ahead, kind, rows.made(kind, row[many:]), goal)
+
+    def test_standings_counted(self):
+        for kind in reference.all_kinds():
+            for order in counted_orders(kind, 300, 120):
+                self.in_time(standcounts.how_many_standings, kind, 200, order)
+                self.in_time(standcounts.how_many_within, kind, 8, order)
+                self.in_time(standcounts.standing_powers, kind, order)
+                self.in_time(standcounts.standing_rule, kind, order)
+            for order in counted_orders(kind, 300, 40):
+                self.in_time(standcounts.standings_rest, kind, 10 ** 30 - 1, order, 999999)
+            for order in counted_orders(kind, 60, 120):
+                self.in_time(standcounts.standings_by_crossings, kind, 12, order)
+                self.in_time(standcounts.standings_by_deeds, kind, 12, order)
+
+    def test_a_great_many_calls(self):
+        plain, ring = Kind("plain", 5), Kind("ring", 4)
+
+        def calls():
+            chance = reference.Chance(5)
+            for _ in range(300):
+                for kind in (plain, ring):
+                    row = chance.least_row(kind, 6)
+                    order, whole = rows.made(kind, row[:3]), rows.made(kind, row)
+                    beginnings.beginnings(kind, whole)
+                    beginnings.least_going_on(kind, order, whole)
+                    solving.greatest_solutions(kind, order, whole)
+                    standcounts.how_many_standings(kind, 8, whole)
+                    standcounts.standing_rule(kind, whole)
+        self.in_time(calls)
+
+
+def counted_orders(kind, beneath_most, begun_most):
+    """The two greatest of some orders that have at most so many beneath, and that at most so many begin."""
+    chance = reference.Chance(43 * kind.size())
+    found = []
+    for length in range(31):
+        for _ in range(6):
+            order = rows.made(kind, chance.least_row(kind, length))
+            if len(reference.down(kind, order)) > 13 and kind.size() > 2:
+                continue
+            many, begun = sum(lower.how_many_beneath(kind, order)), beginnings.how_many_beginnings(kind, order)
+            if many <= beneath_most and begun <= begun_most:
+                found.append((many + 2 * begun, order))
+    return [order for _, order in sorted(found)[-2:]]
 
 
 if __name__ == "__main__":

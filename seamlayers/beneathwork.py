@@ -1,5 +1,6 @@
 """What lies beneath an order, without checks."""
 
+from seamlayers.errors import TooMany
 from seamlayers.orderwork import after_step, count_crossings, is_crossed, opposite_of, product_of
 from seamlayers.rowwork import crossed_by, first_least
 
@@ -20,13 +21,18 @@ def lies_beneath(kind, one, other):
     return places_of(kind, one, first_least(kind, other)) is not None
 
 
-def all_beneath(kind, order):
-    """Return a dict from all orders beneath an order, as tuples, to their crossings."""
+def all_beneath(kind, order, most=None):
+    """Return a dict from all orders beneath an order, as tuples, to their crossings.
+
+    If there are more than `most`, they are refused.
+    """
     found = {tuple(kind.start()): 0}
     for step in first_least(kind, order):
         for here, many in list(found.items()):
             if not is_crossed(kind, here, step):
                 found[tuple(after_step(kind, here, step))] = many + 1
+        if most is not None and len(found) > most:
+            raise TooMany(most + 1)
     return found
 
 

@@ -5,7 +5,6 @@ that is needed is, for each order that begins the whole, what it becomes by each
 a line of numbers. An order beneath is told by its place in a list, -1 is for all others.
 """
 
-from seamlayers.machinework import one_more
 from seamlayers.orderwork import after_step, falls_of, is_crossed, opposite_of
 
 
@@ -39,19 +38,6 @@ def product_lines(kind, begun, orders):
         line = lines[numbers[tuple(after_step(kind, here, fall))]]
         lines.append([line[place] for place in ahead[fall]])
     return [line[:-1] for line in lines]
-
-
-def layer_counts(rows, layers):
-    """Return how often the first order becomes the last one by 0, 1, 2, .. layers, up to so many.
-
-    The rows tell, for each order, as `counted` does, how often it becomes which by one layer.
-    """
-    counts = [0] * (len(rows) - 1) + [1]
-    told = [counts[0]]
-    for _ in range(layers):
-        counts = one_more(rows, counts)
-        told.append(counts[0])
-    return told
 
 
 def powers_counted(line, crossings, gone_on):

@@ -100,3 +100,30 @@ def counts_of(ways):
     for key in reversed(list(ways)):
         counts[key] = sum([counts[there] for _, there in ways[key]]) if ways[key] else 1
     return counts
+
+
+def fewest_between(kind, one, other):
+    """Return the fewest deeds of a way between two joined standings."""
+    goal = key_of(other)
+    known = {key_of(one): True}
+    level, many = [one], 0
+    while goal not in known:
+        # All that are known by now are led to by fewer deeds than the goal.
+        if len(known) > MOST_STANDINGS:
+            raise TooMany(MOST_STANDINGS + 1)
+        level = _one_deed_on(kind, level, known)
+        many += 1
+    return many
+
+
+def _one_deed_on(kind, level, known):
+    """Return the standings behind one deed from those of a list that were not known, and make them known."""
+    found = []
+    for layers in level:
+        for deed in deeds_of(kind, layers):
+            there = after_deed(kind, layers, deed)
+            key = key_of(there)
+            if key not in known:
+                known[key] = True
+                found.append(there)
+    return found

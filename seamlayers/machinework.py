@@ -42,6 +42,21 @@ def lines_between(kind, one, order, most):
     return orders, lines
 
 
+def lost_number(lines):
+    """Return the number of the state for all that is none of the orders if states are numbered as they are found.
+
+    It is None if all steps lead from order to order.
+    """
+    found = 1
+    for line in lines:
+        for number in line:
+            if number == -1:
+                return found
+            if number == found:
+                found += 1
+    return None
+
+
 def counted(line):
     """Return the tuples (number, how often it stands there) of the numbers of a line that are not -1."""
     found = {}
@@ -54,6 +69,19 @@ def counted(line):
 def one_more(rows, counts):
     """Return for each row of tuples (number, times) the sum of so many times the counts with these numbers."""
     return [sum([times * counts[number] for number, times in row]) for row in rows]
+
+
+def first_counts(rows, times):
+    """Return how often the first order becomes the last one by going on 0, 1, 2, .. times, up to so many.
+
+    The rows tell, for each order, as `counted` does, how often it becomes which by going on once.
+    """
+    counts = [0] * (len(rows) - 1) + [1]
+    told = [counts[0]]
+    for _ in range(times):
+        counts = one_more(rows, counts)
+        told.append(counts[0])
+    return told
 
 
 def most_in_chains(lines, labels):

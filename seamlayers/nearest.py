@@ -1,11 +1,11 @@
 """How many deeds lead from standing to standing at least, and the shortest ways up."""
 
 from seamlayers.checks import check_count, check_standings
-from seamlayers.errors import InvalidNumber, TooMany
-from seamlayers.farwork import MOST_STANDINGS, behind_deed, counts_of, far_down, far_up, first_nearer, key_of
+from seamlayers.errors import InvalidNumber
+from seamlayers.farwork import behind_deed, counts_of, far_down, far_up, fewest_between, first_nearer, key_of
 from seamlayers.farwork import nearer_deeds, ways_nearer, wholes_and_start
 from seamlayers.orderwork import count_crossings, heads_of, opposite_of, product_of
-from seamlayers.standwork import after_deed, deeds_of, whole_of
+from seamlayers.standwork import after_deed, whole_of
 
 
 def far_above(kind, standing):
@@ -107,16 +107,7 @@ def fewest(kind, one, other):
     check_standings(kind, one, other)
     if not _are_joined(kind, one, other):
         return None
-    goal = key_of(other)
-    known = {key_of(one): True}
-    level, many = [one], 0
-    while goal not in known:
-        # All that are known by now are led to by fewer deeds than the goal.
-        if len(known) > MOST_STANDINGS:
-            raise TooMany(MOST_STANDINGS + 1)
-        level = _one_deed_on(kind, level, known)
-        many += 1
-    return many
+    return fewest_between(kind, one, other)
 
 
 def _are_joined(kind, one, other):
@@ -132,16 +123,3 @@ def _needs(kind, one, other):
         below = product_of(kind, whole_of(kind, other[at:]), opposite_of(kind, whole_of(kind, one[at:])))
         needs.append((count_crossings(kind, above), count_crossings(kind, below)))
     return needs
-
-
-def _one_deed_on(kind, level, known):
-    """Return the standings behind one deed from those of a list that were not known, and make them known."""
-    found = []
-    for layers in level:
-        for deed in deeds_of(kind, layers):
-            there = after_deed(kind, layers, deed)
-            key = key_of(there)
-            if key not in known:
-                known[key] = True
-                found.append(there)
-    return found

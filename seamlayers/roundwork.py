@@ -23,7 +23,7 @@ def rises_of(kind, one, other):
                 rise = least_rise(size, low, rest)
                 # The next number with the rest stands ahead of all further ones.
                 ahead = flipped[low] - (flipped[rest] + low + rise - rest)
-                if rest != low and ahead > 0:
+                if ahead > 0:
                     rises[low][rest] = max(rises[low][rest], rise + (ahead - 1) // size * size)
     return rises
 

@@ -3,10 +3,10 @@
 from seamlayers.beneathwork import all_beneath
 from seamlayers.blockwork import many_made
 from seamlayers.checks import check_count, check_orders
-from seamlayers.countwork import layer_counts, powers_after, powers_counted, product_lines, unpacked
+from seamlayers.countwork import powers_after, powers_counted, product_lines, unpacked
 from seamlayers.errors import InvalidNumber
 from seamlayers.kinds import check_kind
-from seamlayers.machinework import counted, lines_between, most_in_chains, one_more
+from seamlayers.machinework import counted, first_counts, lines_between, most_in_chains, one_more
 from seamlayers.orderwork import count_crossings, falls_of, opposite_of
 from seamlayers.powerwork import powers_of, rest_after, rule_of
 from seamlayers.values import is_whole
@@ -18,7 +18,7 @@ def how_many_standings(kind, layers, order):
     """Return how many standings of so many layers have an order as their whole."""
     _check_layers(kind, layers, order)
     begun, _ = lines_between(kind, kind.start(), order, None)
-    return layer_counts(_rows_of(kind, begun, order), layers)[-1]
+    return first_counts(_rows_of(kind, begun, order), layers)[-1]
 
 
 def standings_rest(kind, layers, order, modulus):
@@ -91,7 +91,7 @@ def _numbers_and_powers(kind, order):
     # An order becomes itself as often as its base tells: so a base comes as often at most as in one chain.
     bases = [many_made(kind, falls_of(kind, here)) for here in begun]
     most = most_in_chains(lines, bases)
-    numbers = layer_counts(_rows_of(kind, begun, order), sum(list(most.values())) - 1)
+    numbers = first_counts(_rows_of(kind, begun, order), sum(list(most.values())) - 1)
     return numbers, powers_of(numbers, most)
 
 

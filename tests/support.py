@@ -3,6 +3,7 @@
 import copy
 
 from seamlayers import errors
+from seamlayers.book import Book
 from seamlayers.kinds import Kind
 
 from tests import reference, standreference
@@ -24,6 +25,7 @@ def any_values():
         (0, "upper", 0), (0, "lower", 1), [(0, "upper", 0)], [[1, 0, 2], [0, 2, 1]], [[1, 0]] * 2, [[0, 1, 2]] * 9,
         {}, {0: 0}, {0: 1, 1: 0}, {"name": "plain"}, {1: [2]},
         Kind("plain", 3), Kind("mirror", 2), Kind("ring", 2), [Kind("plain", 3)], (Kind("ring", 3),),
+        Book(Kind("plain", 3), [[1, 0, 2], [0, 2, 1]]), [Book(Kind("ring", 2), [[1, 0]])],
         {"kind": Kind("plain", 3)}, errors.InvalidKind(3), errors.SeamError(), [errors.TooMany()], deep,
     ]
 
@@ -36,7 +38,7 @@ def shape(value):
         return (type(value).__name__, [shape(item) for item in value])
     if isinstance(value, Kind):
         return ("Kind", value.name(), value.size(), shape(vars(value)))
-    if isinstance(value, errors.SeamError):
+    if isinstance(value, (Book, errors.SeamError)):
         return (type(value).__name__, shape(vars(value)))
     return (type(value).__name__, value)
 

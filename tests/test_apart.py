@@ -2,8 +2,9 @@
 
 import unittest
 
-from seamlayers import beginnings, beneath, blocks, greedy, greedychains, joining, lacking, leastrows, lower, nearest
-from seamlayers import orders, pairs, rowchains, rows, solving, standcounts, standings, unfolding
+from seamlayers import beginnings, beneath, blocks, book, greedy, greedychains, joining, lacking, leastrows, lower
+from seamlayers import nearest, orders, pairs, rowchains, rowmachines, rownumbers, rows, solving, standcounts
+from seamlayers import standings, standnumbers, texts, unfolding
 from seamlayers.kinds import Kind, wait
 
 from tests.support import Apart
@@ -223,6 +224,55 @@ class Calls(unittest.TestCase, Apart):
                                      standcounts.standings_by_crossings, standcounts.standings_by_deeds):
                         self.assert_apart(function, (kind, layers, order))
                     self.assert_apart(standcounts.standings_rest, (kind, layers, order, 7))
+
+    def test_standings_by_their_number(self):
+        for kind, one, _ in STANDINGS:
+            for function in (standnumbers.standing_number, standnumbers.next_standing):
+                self.assert_apart(function, (kind, one))
+            for layers in (1, 2):
+                self.assert_apart(standnumbers.standing_numbered, (kind, layers, standings.whole(kind, one), 0))
+
+    def test_machines_and_rows_by_their_number(self):
+        for kind, order, row in ROWS:
+            for function in (rowmachines.row_machine, rowmachines.state_orders):
+                self.assert_apart(function, (kind, order))
+            for one in (kind.start(), order):
+                self.assert_apart(rownumbers.how_many_rows, (kind, one, order, 6))
+                self.assert_apart(rownumbers.fall_rule, (kind, one, order))
+            for length in (0, 6, 9):
+                self.assert_apart(rownumbers.first_with, (kind, order, length))
+                self.assert_apart(rownumbers.how_many_staying, (kind, order, length))
+            self.assert_apart(rownumbers.row_numbered, (kind, order, 6, 0))
+            for function in (rownumbers.row_number, rownumbers.next_row):
+                self.assert_apart(function, (kind, row))
+            self.assert_apart(rownumbers.last_staying, (kind, order, row + row))
+
+    def test_texts(self):
+        for kind, one, other in STANDINGS:
+            for rows_told in ([], [[0, 1], []]):
+                self.assert_apart(texts.sheet_text, (kind, [one, other], rows_told))
+                text = texts.sheet_text(kind, [one, other], rows_told)
+                self.assert_apart(texts.read_sheet, (text,))
+                self.assert_apart(texts.wrong_line, (text,))
+                self.assert_apart(texts.wrong_line, (text + "row none",))
+
+    def test_books(self):
+        for kind, one, other in STANDINGS:
+            kept, further = book.Book(kind, one), book.Book(kind, other)
+            kept.together((standings.deeds(kind, one)[:1]) * 3)
+            for function in (book.fars, book.without_rounds, book.touched):
+                self.assert_apart(function, (kept,))
+            if kind != WIDE:
+                self.assert_apart(book.is_direct, (kept,))
+            for number in (0, kept.many_deeds):
+                self.assert_apart(book.layers_at, (kept, number))
+            self.assert_apart(book.since_equal, (kept, 0))
+            self.assert_apart(book.books_joined, (kept, further))
+            self.assert_apart(book.Book.log, (kept,))
+            self.assert_apart(lambda kept: kept.layers, (kept,))
+            self.assert_apart(lambda kept: kept.many_deeds, (kept,))
+            self.assert_apart(lambda kind, one, deeds: book.Book(kind, one).together(deeds),
+                              (kind, one, standings.deeds(kind, one)[:1] * 2))
 
     def test_one_list_for_all_layers(self):
         for kind, one, _ in ORDERS:

@@ -45,8 +45,14 @@ class Examples(unittest.TestCase):
     def test_point_42(self):
         self.check("point_42.txt", 9)
 
-    def test_point_46_of_the_module_standcounts(self):
-        self.check("point_46_standcounts.txt", 3)
+    def test_point_46(self):
+        self.check("point_46.txt", 4)
+
+    def test_point_51(self):
+        self.check("point_51.txt", 4)
+
+    def test_point_56(self):
+        self.check("point_56.txt", 4)
 
 
 if __name__ == "__main__":

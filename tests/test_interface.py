@@ -55,9 +55,22 @@ FUNCTIONS = {
         standings_by_crossings(kind, layers, order); standings_by_deeds(kind, layers, order)""",
     "lacking": """lacking(kind, order, goal); lacking_ahead(kind, order, goal);
         lacking_between(kind, ahead, behind, goal)""",
+    "standnumbers": """standing_number(kind, standing); standing_numbered(kind, layers, order, number);
+        next_standing(kind, standing)""",
+    "rowmachines": "row_machine(kind, order); state_orders(kind, order)",
+    "rownumbers": """how_many_rows(kind, one, order, length); fall_rule(kind, one, order);
+        first_with(kind, order, length); row_number(kind, row); row_numbered(kind, order, length, number);
+        next_row(kind, row); how_many_staying(kind, order, length); last_staying(kind, order, row)""",
+    "texts": "sheet_text(kind, standings, rows); read_sheet(text); wrong_line(text)",
+    "book": """layers_at(book, number); fars(book); without_rounds(book); is_direct(book); touched(book);
+        since_equal(book, number); books_joined(one, other)""",
 }
 
-METHODS = {("kinds", "Kind"): "__init__(self, name, size); name(self); size(self); steps(self); start(self)"}
+METHODS = {("kinds", "Kind"): "__init__(self, name, size); name(self); size(self); steps(self); start(self)",
+           ("book", "Book"): """__init__(self, kind, standing); do(self, deed); undo(self); redo(self);
+               together(self, deeds, *, keep=True); log(self); copy(self); __eq__(self, other)"""}
+
+PROPERTIES = {("book", "Book"): ["layers", "many_deeds"]}
 
 
 def signatures(text):
@@ -87,6 +100,12 @@ class Interface(unittest.TestCase):
             self.assertEqual(found.__module__, "seamlayers." + module_name)
             for name, arguments in signatures(text):
                 self.assertEqual(str(inspect.signature(vars(found)[name])), arguments, name)
+
+    def test_properties_stand_in_their_class(self):
+        for (module_name, class_name), names in PROPERTIES.items():
+            found = getattr(importlib.import_module("seamlayers." + module_name), class_name)
+            for name in names:
+                self.assertIsInstance(vars(found)[name], property)
 
 
 if __name__ == "__main__":

@@ -197,7 +197,8 @@ class Names(unittest.TestCase):
         for path in FILES:
             for node in functions_of(tree_of(path)):
                 self.assertTrue(not node.name.startswith("__") or node.name in DUNDER_METHODS, (path, node.name))
-                self.assertEqual(node.decorator_list, [], (path, node.name))
+                decorators = [ast.unparse(decorator) for decorator in node.decorator_list]
+                self.assertIn(decorators, ([], ["property"]), (path, node.name))
 
 
 class Expressions(unittest.TestCase):
@@ -231,6 +232,23 @@ class Expressions(unittest.TestCase):
                 if made or isinstance(node, (ast.Set, ast.SetComp)):
                     self.assertIn((node.lineno, node.col_offset), told, path)
 
+    def test_properties_change_nothing(self):
+        for path, node in self.nodes(ast.FunctionDef):
+            if node.decorator_list:
+                self.assertEqual([one.arg for one in node.args.args], ["self"], (path, node.name))
+                self.assertEqual([type(one) for one in node.body], [ast.Expr, ast.Return], (path, node.name))
+                self.assertNotIn(node.name, METHODS | own_attributes(), path)
+                for inner in ast.walk(node.body[1]):
+                    if isinstance(inner, ast.Call):
+                        self.assertIn(ast.unparse(inner.func), ("list", "len"), (path, node.name))
+
+    def test_parameters_behind_a_star(self):
+        for path, node in self.nodes(ast.FunctionDef, ast.Lambda):
+            if node.args.kwonlyargs:
+                self.assertIsInstance(node, ast.FunctionDef)
+                self.assertTrue(node.args.args and node.name not in METHODS, (path, node.name))
+                self.assertFalse(node.name.startswith("__"), (path, node.name))
+
     def test_raised_on_the_spot(self):
         for path, node in self.nodes(ast.Raise):
             self.assertIsInstance(node.exc, ast.Call, (path, node.lineno))
@@ -238,7 +256,7 @@ class Expressions(unittest.TestCase):
 
     def test_what_a_loop_goes_over_is_not_changed_in_it(self):
         for path, node in self.nodes(ast.For):
-            if not isinstance(node.iter, ast.Name):
+            if not isinstance(node.iter, (ast.Name, ast.Attribute)):
                 continue
             for inner in ast.walk(node):
                 if isinstance(inner, ast.Call) and isinstance(inner.func, ast.Attribute):

@@ -3,8 +3,9 @@
 import time
 import unittest
 
-from seamlayers import beginnings, beneath, blocks, greedy, greedychains, joining, lacking, leastrows, lower, nearest
-from seamlayers import orders, rowchains, rows, solving, standcounts, standings
+from seamlayers import beginnings, beneath, blocks, book, greedy, greedychains, joining, lacking, leastrows, lower
+from seamlayers import nearest, orders, rowchains, rowmachines, rownumbers, rows, solving, standcounts, standings
+from seamlayers import standnumbers, texts
 from seamlayers.errors import TooMany
 from seamlayers.kinds import Kind
 
@@ -208,6 +209,60 @@ class Limits(unittest.TestCase):
                 self.in_time(standcounts.standings_by_crossings, kind, 12, order)
                 self.in_time(standcounts.standings_by_deeds, kind, 12, order)
 
+    def test_standings_by_their_number(self):
+        for kind in reference.all_kinds():
+            for order in counted_orders(kind, 300, 120):
+                many = standcounts.how_many_standings(kind, 8, order)
+                one = self.in_time(standnumbers.standing_numbered, kind, 8, order, many // 2)
+                self.assertEqual(self.in_time(standnumbers.standing_number, kind, one), many // 2)
+                self.in_time(standnumbers.next_standing, kind, one)
+
+    def test_machines_and_rows_by_their_number(self):
+        told = [(kind, order) for kind in reference.all_kinds() for order in great_orders(kind)[:3]]
+        told += [(Kind("ring", 4), [-9, 29, 8, -22]), (Kind("ring", 5), [-2, -18, -6, 20, 16])]
+        for kind, order in told:
+            row = rows.made(kind, reference.down(kind, order)[:1]), order
+            for function in (rowmachines.row_machine, rowmachines.state_orders):
+                self.in_time(function, kind, order)
+            for one in (kind.start(), *row):
+                self.in_time(rownumbers.how_many_rows, kind, one, order, 300)
+                self.in_time(rownumbers.fall_rule, kind, one, order)
+            first = self.in_time(rownumbers.first_with, kind, order, 100)
+            if isinstance(first, list):
+                self.in_time(rownumbers.row_number, kind, first)
+                self.in_time(rownumbers.next_row, kind, first)
+                self.in_time(rownumbers.row_numbered, kind, order, 100, 0)
+            self.in_time(rownumbers.how_many_staying, kind, order, 300)
+            self.in_time(rownumbers.last_staying, kind, order, reference.Chance(7).row(kind, 100))
+        for kind, order in ((Kind("mirror", 5), [4, -5, -3, -2, 1]), (Kind("ring", 3), [-21, 26, -2])):
+            self.assertGreater(self.in_time(rownumbers.how_many_staying, kind, order, 300), 1001)
+
+    def test_sheets(self):
+        for kind in reference.all_kinds():
+            told = (great_standings(kind) * 50)[:50]
+            row = reference.Chance(8).row(kind, 100)
+            text = self.in_time(texts.sheet_text, kind, told, [row] * 100)
+            self.assertEqual(self.in_time(texts.read_sheet, text), (kind, told, [row] * 100))
+            self.assertIsNone(self.in_time(texts.wrong_line, text))
+
+    def test_books_of_two_hundred_deeds(self):
+        for kind in reference.all_kinds():
+            for standing in great_standings(kind)[:3]:
+                kept = book.Book(kind, standing)
+                chance = reference.Chance(9)
+
+                def two_hundred():
+                    for _ in range(200):
+                        there = standings.deeds(kind, kept.layers)
+                        if there:
+                            kept.do(there[chance.below(len(there))])
+                self.in_time(two_hundred)
+                for function in (book.fars, book.without_rounds, book.touched, book.is_direct, book.Book.copy):
+                    self.in_time(function, kept)
+                self.in_time(book.layers_at, kept, kept.many_deeds)
+                self.in_time(book.since_equal, kept, 0)
+                self.assertIs(self.in_time(book.books_joined, kept, kept.copy()), True)
+
     def test_a_great_many_calls(self):
         plain, ring = Kind("plain", 5), Kind("ring", 4)
 
@@ -222,6 +277,14 @@ class Limits(unittest.TestCase):
                     solving.greatest_solutions(kind, order, whole)
                     standcounts.how_many_standings(kind, 8, whole)
                     standcounts.standing_rule(kind, whole)
+                    one = standnumbers.standing_numbered(kind, 3, whole, 1)
+                    standnumbers.next_standing(kind, one)
+                    rowmachines.row_machine(kind, whole)
+                    rownumbers.next_row(kind, rownumbers.first_with(kind, whole, 12))
+                    texts.read_sheet(texts.sheet_text(kind, [one], [row]))
+                    kept = book.Book(kind, one)
+                    kept.together(standings.deeds(kind, one)[:1])
+                    book.fars(kept)
         self.in_time(calls)
 
 

@@ -1,9 +1,9 @@
 """A book of a standing and of the deeds that are done on it."""
 
-from seamlayers.checks import check_standings
+from seamlayers.checks import check_standing
 from seamlayers.errors import InvalidBook, InvalidDeed, InvalidFlag, InvalidList, InvalidNumber
 from seamlayers.errors import NothingToRedo, NothingToUndo, Unlike
-from seamlayers.farwork import behind_deed, far_up, fewest_between, is_nearer, key_of, wholes_and_start
+from seamlayers.farwork import far_up, fewest_between
 from seamlayers.standwork import after_deed, is_deed, whole_of
 from seamlayers.values import is_count
 
@@ -12,7 +12,7 @@ class Book:
     """A standing, the deeds that are done on it, and those that are undone."""
 
     def __init__(self, kind, standing):
-        check_standings(kind, standing)
+        check_standing(kind, standing)
         self._kind = kind
         self._first = [list(layer) for layer in standing]
         self._here = [list(layer) for layer in standing]
@@ -99,28 +99,20 @@ def layers_at(book, number):
 def fars(book):
     """Return how far above is from the first standing, and from the standing behind each deed."""
     _check_book(book)
-    kind, layers = book._kind, book._first
-    wholes = wholes_and_start(kind, layers)
-    told = [far_up(kind, layers)]
-    for deed in book._log:
-        told.append(told[-1] + (-1 if is_nearer(kind, layers, wholes, deed) else 1))
-        layers, wholes = behind_deed(kind, layers, wholes, deed)
-    return told
+    return [far_up(book._kind, layers) for layers in _standings_of(book)]
 
 
 def without_rounds(book):
     """Return the deeds of the log without each stretch that leads from a standing back to it, as soon as it does."""
     _check_book(book)
-    layers = book._first
-    deeds, keys = [], [key_of(layers)]
-    for deed in book._log:
-        layers = after_deed(book._kind, layers, deed)
-        key = key_of(layers)
-        if key in keys:
-            keys = keys[:keys.index(key) + 1]
-            deeds = deeds[:len(keys) - 1]
+    told = _standings_of(book)
+    deeds, way = [], told[:1]
+    for deed, layers in zip(book._log, told[1:]):
+        if layers in way:
+            way = way[:way.index(layers) + 1]
+            deeds = deeds[:len(way) - 1]
         else:
-            keys.append(key)
+            way.append(layers)
             deeds.append(deed)
     return deeds
 
@@ -142,11 +134,10 @@ def since_equal(book, number):
     _check_book(book)
     if not (is_count(number) and number < len(book._first)):
         raise InvalidNumber(number)
-    layers, since = book._first, 0
-    for at, deed in enumerate(book._log):
+    since = 0
+    for at, layers in enumerate(_standings_of(book)):
         if layers[number] != book._here[number]:
             since = at + 1
-        layers = after_deed(book._kind, layers, deed)
     return since
 
 
@@ -158,6 +149,14 @@ def books_joined(one, other):
         raise Unlike(other)
     # No deed changes the whole.
     return whole_of(one._kind, one._first) == whole_of(other._kind, other._first)
+
+
+def _standings_of(book):
+    """Return the first standing and the one behind each deed."""
+    told = [book._first]
+    for deed in book._log:
+        told.append(after_deed(book._kind, told[-1], deed))
+    return told
 
 
 def _check_book(book):

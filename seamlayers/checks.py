@@ -1,8 +1,9 @@
 """The checks of arguments that many functions share, in the order of the parameters."""
 
 from seamlayers.blockwork import is_told_block
-from seamlayers.errors import InvalidList, InvalidNumber, InvalidOrder, InvalidRow, InvalidStanding, Unlike
-from seamlayers.kinds import check_kind
+from seamlayers.errors import InvalidKind, InvalidList, InvalidNumber, InvalidOrder, InvalidRow, InvalidStanding
+from seamlayers.errors import Unlike
+from seamlayers.kinds import Kind, check_kind
 from seamlayers.orderwork import is_told_order
 from seamlayers.rowwork import is_told_row, makes_no_detour
 from seamlayers.standwork import is_told_standing
@@ -44,12 +45,18 @@ def check_count(number):
         raise InvalidNumber(number)
 
 
-def check_standings(kind, *standings):
+def check_standing(kind, standing):
+    """Refuse what is no kind, then what is no standing of it."""
+    if not isinstance(kind, Kind):
+        raise InvalidKind(kind)
+    if not is_told_standing(kind, standing):
+        raise InvalidStanding(standing)
+
+
+def check_standings(kind, one, other):
     """Refuse what is no kind, then each of the values that is no standing of it, then unlike ones."""
-    check_kind(kind)
-    for standing in standings:
-        if not is_told_standing(kind, standing):
-            raise InvalidStanding(standing)
-    for standing in standings:
-        if len(standing) != len(standings[0]):
-            raise Unlike(standing)
+    check_standing(kind, one)
+    if not is_told_standing(kind, other):
+        raise InvalidStanding(other)
+    if len(one) != len(other):
+        raise Unlike(other)

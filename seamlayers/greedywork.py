@@ -1,6 +1,6 @@
 """Greedy products of orders, with however many crossings, without checks."""
 
-from seamlayers.orderwork import after_step, is_crossed, opposite_of
+from seamlayers.orderwork import after_step, exchange_in, is_crossed, opposite_of, order_in, spread_of
 from seamlayers.rowwork import first_least
 
 
@@ -18,22 +18,24 @@ def after_gain_ahead(kind, order, step):
 
 def after_row(kind, order, row):
     """Return what an order becomes by gaining the steps of a row."""
+    name, spread = kind.name(), spread_of(kind, order)
     for step in row:
-        order = after_gain(kind, order, step)
-    return order
+        if spread[step] < spread[step + 1]:
+            exchange_in(name, spread, step)
+    return order_in(kind, spread)
 
 
 def greedy_of(kind, one, other):
     """Return the greedy product of two orders, a new list."""
-    return after_row(kind, list(one), first_least(kind, other))
+    return after_row(kind, one, first_least(kind, other))
 
 
 def kept_of(kind, row):
     """Return the places of the steps by which the start changes as it gains those of a row."""
+    name, spread = kind.name(), spread_of(kind, kind.start())
     kept = []
-    order = kind.start()
     for at, step in enumerate(row):
-        if not is_crossed(kind, order, step):
+        if spread[step] < spread[step + 1]:
             kept.append(at)
-            order = after_step(kind, order, step)
+            exchange_in(name, spread, step)
     return kept

@@ -1,6 +1,6 @@
 """Standings that deeds lead to one another, and the ways between them."""
 
-from seamlayers.checks import check_standings
+from seamlayers.checks import check_standing, check_standings
 from seamlayers.errors import InvalidList
 from seamlayers.standwork import after_deed, is_deed, whole_of
 from seamlayers.values import are_whole, is_rising
@@ -16,8 +16,6 @@ def joined(kind, one, other):
 def way(kind, one, other):
     """Return deeds, one behind the other, that lead from a standing to another one, or None."""
     check_standings(kind, one, other)
-    if whole_of(kind, one) != whole_of(kind, other):
-        return None
     return way_between(kind, one, other)
 
 
@@ -36,13 +34,13 @@ def is_way(kind, one, other, value):
 
 def uppermost(kind, standing):
     """Return the joined standing all layers of which but the first are the start."""
-    check_standings(kind, standing)
+    check_standing(kind, standing)
     return [whole_of(kind, standing)] + [kind.start() for _ in range(len(standing) - 1)]
 
 
 def lowermost(kind, standing):
     """Return the joined standing all layers of which but the last are the start."""
-    check_standings(kind, standing)
+    check_standing(kind, standing)
     return [kind.start() for _ in range(len(standing) - 1)] + [whole_of(kind, standing)]
 
 
@@ -50,19 +48,20 @@ def joined_at(kind, one, other, seams):
     """Tell whether deeds at told seams alone lead from a standing to another one."""
     check_standings(kind, one, other)
     _check_seams(one, seams)
-    return _are_joined_at(kind, one, other, seams)
+    bounds = stretches_of(len(one), seams)
+    return all([whole_of(kind, one[begin:end]) == whole_of(kind, other[begin:end]) for begin, end in bounds])
 
 
 def way_at(kind, one, other, seams):
     """Return deeds at told seams that lead from a standing to another one, or None."""
     check_standings(kind, one, other)
     _check_seams(one, seams)
-    if not _are_joined_at(kind, one, other, seams):
-        return None
     deeds = []
     for begin, end in stretches_of(len(one), seams):
-        for seam, side, step in way_between(kind, one[begin:end], other[begin:end]):
-            deeds.append((begin + seam, side, step))
+        found = way_between(kind, one[begin:end], other[begin:end])
+        if found is None:
+            return None
+        deeds.extend([(begin + seam, side, step) for seam, side, step in found])
     return deeds
 
 
@@ -72,9 +71,3 @@ def _check_seams(standing, seams):
         raise InvalidList(seams)
     if seams and not (seams[0] >= 0 and seams[-1] < len(standing) - 1):
         raise InvalidList(seams)
-
-
-def _are_joined_at(kind, one, other, seams):
-    """Tell whether both have the same whole in each stretch of layers between seams not told."""
-    bounds = stretches_of(len(one), seams)
-    return all([whole_of(kind, one[begin:end]) == whole_of(kind, other[begin:end]) for begin, end in bounds])

@@ -1,6 +1,6 @@
 """Steps up and down between orders beneath one another, and all orders beneath one."""
 
-from seamlayers.beneathwork import all_beneath, lies_beneath, next_over, next_under, places_of
+from seamlayers.beneathwork import all_beneath, counts_between, lies_beneath, next_over, next_under, places_of
 from seamlayers.checks import check_block, check_orders
 from seamlayers.errors import InvalidNumber
 from seamlayers.greedywork import after_row
@@ -73,14 +73,11 @@ def beneath_number(kind, order, value):
 def how_many_between(kind, one, other):
     """Return how many orders between two orders have as many crossings as the first, one more, .."""
     check_orders(kind, one, other)
+    if one == other:
+        return [1]
     if not lies_beneath(kind, one, other):
         return []
-    least = count_crossings(kind, one)
-    counts = [0] * (count_crossings(kind, other) - least + 1)
-    for order, many in all_beneath(kind, other).items():
-        if many >= least and lies_beneath(kind, one, order):
-            counts[many - least] += 1
-    return counts
+    return counts_between(kind, one, other)[count_crossings(kind, one):]
 
 
 def held_in(kind, order, block):

@@ -42,21 +42,6 @@ def lines_between(kind, one, order, most):
     return orders, lines
 
 
-def lost_number(lines):
-    """Return the number of the state for all that is none of the orders if states are numbered as they are found.
-
-    It is None if all steps lead from order to order.
-    """
-    found = 1
-    for line in lines:
-        for number in line:
-            if number == -1:
-                return found
-            if number == found:
-                found += 1
-    return None
-
-
 def counted(line):
     """Return the tuples (number, how often it stands there) of the numbers of a line that are not -1."""
     found = {}
@@ -90,12 +75,14 @@ def most_in_chains(lines, labels):
     A chain goes on by steps, each with one crossing more. The lines are those of `lines_between`; the labels
     stand in the same order.
     """
-    most = [{} for _ in lines]
-    for at, line in enumerate(lines):
-        here = most[at]
-        here[labels[at]] = here.get(labels[at], 0) + 1
-        for number in line:
+    most = {}
+    # What an order becomes has the greater number: so it is worked out ahead of the order.
+    for at in range(len(lines) - 1, -1, -1):
+        here = {}
+        for number in lines[at]:
             if number > at:
-                for label, many in here.items():
-                    most[number][label] = max(many, most[number].get(label, 0))
-    return most[-1]
+                for label, many in most[number].items():
+                    here[label] = max(many, here.get(label, 0))
+        here[labels[at]] = here.get(labels[at], 0) + 1
+        most[at] = here
+    return most[0]

@@ -1,34 +1,37 @@
 """How many deeds lead from standing to standing at least, and the shortest ways up."""
 
-from seamlayers.checks import check_count, check_standings
+from seamlayers.checks import check_count, check_standing, check_standings
 from seamlayers.errors import InvalidNumber
-from seamlayers.farwork import behind_deed, counts_of, far_down, far_up, fewest_between, first_nearer, key_of
-from seamlayers.farwork import nearer_deeds, ways_nearer, wholes_and_start
+from seamlayers.farwork import counts_of, far_down, far_of, far_up, fewest_between, first_way_up, nearer_ones
+from seamlayers.farwork import numbers_and_wholes, ways_nearer
 from seamlayers.orderwork import count_crossings, heads_of, opposite_of, product_of
-from seamlayers.standwork import after_deed, whole_of
+from seamlayers.seamwork import Seams
+from seamlayers.standwork import after_deed, whole_of, wholes_ahead_of, wholes_of
 
 
 def far_above(kind, standing):
     """Return the fewest deeds that lead from a standing to its uppermost one."""
-    check_standings(kind, standing)
+    check_standing(kind, standing)
     return far_up(kind, standing)
 
 
 def far_below(kind, standing):
     """Return the fewest deeds that lead from a standing to its lowermost one."""
-    check_standings(kind, standing)
+    check_standing(kind, standing)
     return far_down(kind, standing)
 
 
 def nearer(kind, standing):
     """Return the deeds, in order, behind which `far_above` is one less."""
-    check_standings(kind, standing)
-    return nearer_deeds(kind, standing, wholes_and_start(kind, standing))
+    check_standing(kind, standing)
+    seams = Seams(kind)
+    here, wholes = numbers_and_wholes(seams, kind, standing)
+    return [deed for deed, _, _ in nearer_ones(seams, here, wholes)]
 
 
 def partner(kind, standing):
     """Return the standing behind the deed at the least head of the last layer that isn't the start, or None."""
-    check_standings(kind, standing)
+    check_standing(kind, standing)
     for at in range(len(standing) - 1, 0, -1):
         steps = heads_of(kind, standing[at])
         if steps:
@@ -38,30 +41,23 @@ def partner(kind, standing):
 
 def way_up(kind, standing):
     """Return the first, in order, of the shortest ways up."""
-    check_standings(kind, standing)
-    deeds = []
-    layers, wholes = standing, wholes_and_start(kind, standing)
-    deed = first_nearer(kind, layers, wholes)
-    while deed is not None:
-        deeds.append(deed)
-        layers, wholes = behind_deed(kind, layers, wholes, deed)
-        deed = first_nearer(kind, layers, wholes)
-    return deeds
+    check_standing(kind, standing)
+    return first_way_up(kind, standing)
 
 
 def how_many_up(kind, standing):
     """Return how many shortest ways up there are."""
-    check_standings(kind, standing)
-    return counts_of(ways_nearer(kind, standing))[key_of(standing)]
+    check_standing(kind, standing)
+    begin, ways = ways_nearer(kind, standing)
+    return counts_of(ways)[begin]
 
 
 def up_numbered(kind, standing, number):
     """Return the shortest way up ahead of which just so many are, in order."""
-    check_standings(kind, standing)
+    check_standing(kind, standing)
     check_count(number)
-    ways = ways_nearer(kind, standing)
+    here, ways = ways_nearer(kind, standing)
     counts = counts_of(ways)
-    here = key_of(standing)
     if number >= counts[here]:
         raise InvalidNumber(number)
     deeds = []
@@ -80,26 +76,31 @@ def odd(kind, one, other):
     check_standings(kind, one, other)
     if not _are_joined(kind, one, other):
         return None
-    return (far_up(kind, one) + far_up(kind, other)) % 2 == 1
+    # Each deed changes the crossings of one layer by one.
+    return sum([count_crossings(kind, layer) for layer in one + other]) % 2 == 1
 
 
 def seam_needs(kind, one, other):
     """Return how many upper and lower deeds there are at each seam at least, or None."""
     check_standings(kind, one, other)
-    if not _are_joined(kind, one, other):
+    first, second = wholes_of(kind, one), wholes_of(kind, other)
+    if first[0] != second[0]:
         return None
-    return _needs(kind, one, other)
+    return _needs(kind, (wholes_ahead_of(kind, one), first), (wholes_ahead_of(kind, other), second))
 
 
 def bounds(kind, one, other):
     """Return two numbers between which the fewest deeds of a way are, or None."""
     check_standings(kind, one, other)
-    if not _are_joined(kind, one, other):
+    first, second = wholes_of(kind, one), wholes_of(kind, other)
+    if first[0] != second[0]:
         return None
-    here, there = far_up(kind, one), far_up(kind, other)
-    low, beyond = far_down(kind, one), far_down(kind, other)
-    needs = sum([upper + lower for upper, lower in _needs(kind, one, other)])
-    return max(abs(here - there), abs(low - beyond), needs), min(here + there, low + beyond)
+    ahead, beyond = wholes_ahead_of(kind, one), wholes_ahead_of(kind, other)
+    high, low = far_of(kind, one, first), far_of(kind, other, second)
+    # Turned over, the wholes of the first layers are those of the last ones, with as many crossings.
+    deep, deeper = far_of(kind, one, ahead[::-1]), far_of(kind, other, beyond[::-1])
+    needs = sum([upper + lower for upper, lower in _needs(kind, (ahead, first), (beyond, second))])
+    return max(abs(high - low), abs(deep - deeper), needs), min(high + low, deep + deeper)
 
 
 def fewest(kind, one, other):
@@ -116,10 +117,13 @@ def _are_joined(kind, one, other):
 
 
 def _needs(kind, one, other):
-    """Return by how many crossings the wholes above and below each seam are apart."""
+    """Return by how many crossings the wholes above and below each seam are apart.
+
+    Of both standings the wholes of the first layers and those of the last ones are told.
+    """
     needs = []
-    for at in range(1, len(one)):
-        above = product_of(kind, opposite_of(kind, whole_of(kind, one[:at])), whole_of(kind, other[:at]))
-        below = product_of(kind, whole_of(kind, other[at:]), opposite_of(kind, whole_of(kind, one[at:])))
+    for seam in range(len(one[0]) - 1):
+        above = product_of(kind, opposite_of(kind, one[0][seam]), other[0][seam])
+        below = product_of(kind, other[1][seam + 1], opposite_of(kind, one[1][seam + 1]))
         needs.append((count_crossings(kind, above), count_crossings(kind, below)))
     return needs

@@ -2,7 +2,7 @@
 
 from seamlayers.checks import check_orders
 from seamlayers.errors import TooMany
-from seamlayers.machinework import lines_between, lost_number
+from seamlayers.machinework import lines_between
 
 MOST_STATES = 1000
 
@@ -28,10 +28,12 @@ def state_orders(kind, order):
 def _states(kind, order):
     """Return the orders that begin an order, what steps make of them, and the number of the state without an order."""
     orders, lines = lines_between(kind, kind.start(), order, MOST_STATES)
-    lost = lost_number(lines)
-    if lost is not None and len(orders) == MOST_STATES:
+    # If all steps lead on from the start, the order is the greatest one. Else those ahead lead to one order each.
+    if -1 not in lines[0]:
+        return orders, lines, None
+    if len(orders) == MOST_STATES:
         raise TooMany(MOST_STATES + 1)
-    return orders, lines, lost
+    return orders, lines, lines[0].index(-1) + 1
 
 
 def _with_lost(number, lost):

@@ -5,7 +5,7 @@ off an order is to do a fall of its opposite, and this is the cheaper one.
 """
 
 from seamlayers.kinds import is_step
-from seamlayers.orderwork import after_step, count_crossings, exchanged, falls_of, is_crossed, opposite_of
+from seamlayers.orderwork import count_crossings, exchange_in, opposite_of, order_in, spread_of
 from seamlayers.values import are_whole, is_rising
 
 MOST_STEPS = 100
@@ -27,10 +27,10 @@ def are_places(row, value):
 
 def made_by(kind, row):
     """Return the order that a row makes."""
-    order = kind.start()
+    name, spread = kind.name(), spread_of(kind, kind.start())
     for step in row:
-        order = after_step(kind, order, step)
-    return order
+        exchange_in(name, spread, step)
+    return order_in(kind, spread)
 
 
 def makes_no_detour(kind, row):
@@ -38,10 +38,9 @@ def makes_no_detour(kind, row):
     return count_crossings(kind, made_by(kind, row)) == len(row)
 
 
-def pair_told(kind, order, step):
-    """Return the pair that a step crosses, as it is told."""
-    first, second = exchanged(kind, order, step)
-    low, high = min(first, second), max(first, second)
+def pair_told(kind, first, second):
+    """Return the pair that a step crosses which exchanges two items, as it is told."""
+    low, high = (first, second) if first < second else (second, first)
     if kind.name() == "ring":
         below = low - low % kind.size()
         return low - below, high - below
@@ -53,23 +52,38 @@ def pair_told(kind, order, step):
 
 def crossed_by(kind, row):
     """Return the list of the pairs that the steps of a row cross."""
+    name, spread = kind.name(), spread_of(kind, kind.start())
     told = []
-    order = kind.start()
     for step in row:
-        told.append(pair_told(kind, order, step))
-        order = after_step(kind, order, step)
+        told.append(pair_told(kind, spread[step], spread[step + 1]))
+        exchange_in(name, spread, step)
     return told
 
 
 def first_down(kind, flipped):
     """Return the first of the least rows that make the opposite of an order."""
+    name, spread = kind.name(), spread_of(kind, flipped)
     row = []
-    falls = falls_of(kind, flipped)
-    while falls:
-        row.append(falls[0])
-        flipped = after_step(kind, flipped, falls[0])
-        falls = falls_of(kind, flipped)
+    step, end = 0, len(spread) - 1
+    while step < end:
+        if spread[step] > spread[step + 1]:
+            row.append(step)
+            exchange_in(name, spread, step)
+            step = least_changed(name, step, end)
+        else:
+            step += 1
     return row
+
+
+def least_changed(name, step, steps):
+    """Return the least step at which an order of a kind with so many steps may be crossed once it is behind a step.
+
+    Before it must be crossed at no lesser one.
+    """
+    # The last step of a ring is a neighbour of the step 0.
+    if step == 0 or (name == "ring" and step == steps - 1):
+        return 0
+    return step - 1
 
 
 def first_least(kind, order):
@@ -79,14 +93,14 @@ def first_least(kind, order):
 
 def least_places(kind, row):
     """Return places of a row whose steps are a least row that makes the same order."""
+    name, spread = kind.name(), spread_of(kind, kind.start())
     places = []
-    order = kind.start()
     for at, step in enumerate(row):
-        if is_crossed(kind, order, step):
+        if spread[step] > spread[step + 1]:
             # The new step undoes the one step kept that crosses the same: both are left out.
             told = crossed_by(kind, [row[place] for place in places] + [step])
             del places[told.index(told[-1])]
         else:
             places.append(at)
-        order = after_step(kind, order, step)
+        exchange_in(name, spread, step)
     return places

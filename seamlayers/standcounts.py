@@ -27,8 +27,6 @@ def standings_rest(kind, layers, order, modulus):
     if not (is_whole(modulus) and 1 <= modulus <= MOST_MODULUS):
         raise InvalidNumber(modulus)
     numbers, powers = _numbers_and_powers(kind, order)
-    if layers < len(numbers):
-        return numbers[layers] % modulus
     return rest_after(numbers, rule_of(powers), layers, modulus)
 
 
@@ -70,7 +68,7 @@ def standings_by_deeds(kind, layers, order):
     # Far above hangs on the wholes of the last layers, and turned over these are the first ones.
     told = _by_powers(kind, layers, opposite_of(kind, order), True)
     # The whole of all layers counts just once.
-    return told[count_crossings(kind, order):] if layers else told
+    return told[count_crossings(kind, order):]
 
 
 def _check_layers(kind, layers, order):

@@ -1,50 +1,51 @@
 """Standings of layers, and the deeds at their seams."""
 
-from seamlayers.checks import check_standings
-from seamlayers.errors import InvalidDeed, InvalidList
-from seamlayers.kinds import check_kind
+from seamlayers.checks import check_standing
+from seamlayers.errors import InvalidDeed, InvalidKind, InvalidList
+from seamlayers.kinds import Kind
 from seamlayers.standwork import after_deed, deeds_of, is_deed, is_told_standing, turned_over, whole_of, wholes_of
 
 
 def is_standing(kind, value):
     """Tell whether a value is a standing of a kind."""
-    check_kind(kind)
+    if not isinstance(kind, Kind):
+        raise InvalidKind(kind)
     return is_told_standing(kind, value)
 
 
 def whole(kind, standing):
     """Return the greedy product of the layers of a standing, one behind the other."""
-    check_standings(kind, standing)
+    check_standing(kind, standing)
     return whole_of(kind, standing)
 
 
 def wholes(kind, standing):
     """Return the wholes of all layers, of all but the first, .., of the last one alone."""
-    check_standings(kind, standing)
+    check_standing(kind, standing)
     return wholes_of(kind, standing)
 
 
 def turned(kind, standing):
     """Return the standing of the opposites of the layers, the last one first."""
-    check_standings(kind, standing)
+    check_standing(kind, standing)
     return turned_over(kind, standing)
 
 
 def deeds(kind, standing):
     """Return all deeds that there are in a standing, in order."""
-    check_standings(kind, standing)
+    check_standing(kind, standing)
     return deeds_of(kind, standing)
 
 
 def done(kind, standing, deed):
     """Return the standing behind a deed."""
-    check_standings(kind, standing)
+    check_standing(kind, standing)
     return _done(kind, standing, deed)
 
 
 def led(kind, standing, deeds):
     """Return the standing behind the deeds of a list, one behind the other."""
-    check_standings(kind, standing)
+    check_standing(kind, standing)
     if not isinstance(deeds, list):
         raise InvalidList(deeds)
     layers = [list(layer) for layer in standing]

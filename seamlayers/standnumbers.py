@@ -1,7 +1,7 @@
 """Standings with one whole by their number, in order."""
 
 from seamlayers.beneathwork import all_beneath
-from seamlayers.checks import check_orders, check_standings
+from seamlayers.checks import check_orders, check_standing
 from seamlayers.countwork import product_lines
 from seamlayers.errors import InvalidNumber
 from seamlayers.kinds import check_kind
@@ -12,7 +12,7 @@ from seamlayers.values import is_count
 
 def standing_number(kind, standing):
     """Return how many standings with as many layers and the same whole are ahead of a standing."""
-    check_standings(kind, standing)
+    check_standing(kind, standing)
     beneath, lines, counts = _tables(kind, whole_of(kind, standing), len(standing))
     return _number_of(beneath, lines, counts, standing)
 
@@ -31,7 +31,7 @@ def standing_numbered(kind, layers, order, number):
 
 def next_standing(kind, standing):
     """Return the first standing behind a standing that has as many layers and the same whole, or None."""
-    check_standings(kind, standing)
+    check_standing(kind, standing)
     layers = len(standing)
     beneath, lines, counts = _tables(kind, whole_of(kind, standing), layers)
     number = _number_of(beneath, lines, counts, standing) + 1

@@ -14,18 +14,28 @@ MOST_LAYERS = 8
 
 def wholes_of(kind, layers):
     """Return the wholes of all layers, of all but the first, .., of the last one alone."""
-    wholes = []
-    whole = kind.start()
-    for layer in reversed(layers):
+    whole = list(layers[-1])
+    wholes = [whole]
+    for layer in reversed(layers[:-1]):
         whole = greedy_of(kind, layer, whole)
         wholes.append(whole)
     return wholes[::-1]
 
 
+def wholes_ahead_of(kind, layers):
+    """Return the wholes of the first layer alone, of the first two, .., of all layers."""
+    whole = list(layers[0])
+    wholes = [whole]
+    for layer in layers[1:]:
+        whole = greedy_of(kind, whole, layer)
+        wholes.append(whole)
+    return wholes
+
+
 def whole_of(kind, layers):
     """Return the greedy product of the layers, one behind the other."""
-    whole = kind.start()
-    for layer in layers:
+    whole = list(layers[0])
+    for layer in layers[1:]:
         whole = greedy_of(kind, whole, layer)
     return whole
 
@@ -34,9 +44,18 @@ def is_told_standing(kind, value):
     """Tell whether a value is a standing that may be handed in."""
     if not (isinstance(value, list) and 1 <= len(value) <= MOST_LAYERS):
         return False
-    if not all([is_told_order(kind, layer) for layer in value]):
-        return False
-    return count_crossings(kind, whole_of(kind, value)) <= MOST_CROSSINGS
+    for layer in value:
+        if not is_told_order(kind, layer):
+            return False
+    return kind.name() != "ring" or _is_small(kind, value)
+
+
+def _is_small(kind, layers):
+    """Tell whether the whole of layers has no more crossings than may be handed in."""
+    # It never has more than all layers together, and mostly this tells it.
+    if sum([count_crossings(kind, layer) for layer in layers]) <= MOST_CROSSINGS:
+        return True
+    return count_crossings(kind, whole_of(kind, layers)) <= MOST_CROSSINGS
 
 
 def turned_over(kind, layers):

@@ -13,7 +13,10 @@ def is_count(value):
 
 def are_whole(values):
     """Tell whether all items of a list are whole numbers."""
-    return all([is_whole(value) for value in values])
+    for value in values:
+        if not isinstance(value, int) or isinstance(value, bool):
+            return False
+    return True
 
 
 def is_rising(numbers):

@@ -1,7 +1,6 @@
 """Ways between joined standings, without checks."""
 
-from seamlayers.greedywork import after_gain
-from seamlayers.orderwork import is_crossed
+from seamlayers.orderwork import exchange_in, order_in, spread_of
 from seamlayers.rowwork import first_least
 from seamlayers.standwork import turned_over
 
@@ -18,31 +17,37 @@ def stretches_of(many, seams):
 
 
 def way_to_top(kind, layers):
-    """Return deeds, as few as can be, that lead to the uppermost standing."""
+    """Return deeds, as few as can be, that lead to the uppermost standing, and the whole."""
+    name = kind.name()
     deeds = []
-    below = layers[-1]
+    below = list(layers[-1])
     # From the last seam on the layer below is taken off, head by head, while the upper one gains its steps.
     for seam in range(len(layers) - 2, -1, -1):
-        upper = layers[seam]
+        spread = spread_of(kind, layers[seam])
         for step in first_least(kind, below):
-            if not is_crossed(kind, upper, step):
+            if spread[step] < spread[step + 1]:
+                exchange_in(name, spread, step)
                 deeds.append((seam, "upper", step))
             deeds.append((seam, "lower", step))
-            upper = after_gain(kind, upper, step)
-        below = upper
-    return deeds
+        below = order_in(kind, spread)
+    return deeds, below
 
 
 def way_to_bottom(kind, layers):
     """Return deeds, as few as can be, that lead to the lowermost standing."""
     last = len(layers) - 2
     sides = {"upper": "lower", "lower": "upper"}
-    return [(last - seam, sides[side], step) for seam, side, step in way_to_top(kind, turned_over(kind, layers))]
+    deeds, _ = way_to_top(kind, turned_over(kind, layers))
+    return [(last - seam, sides[side], step) for seam, side, step in deeds]
 
 
 def way_between(kind, one, other):
-    """Return deeds that lead from a standing to a joined one, over the nearer end."""
+    """Return deeds that lead from a standing to another one, over the nearer end, None if they are not joined."""
+    up, whole = way_to_top(kind, one)
+    down, further = way_to_top(kind, other)
+    if whole != further:
+        return None
     # Each deed is undone by itself: so a way back is the way, the last deed first.
-    above = way_to_top(kind, one) + way_to_top(kind, other)[::-1]
+    above = up + down[::-1]
     below = way_to_bottom(kind, one) + way_to_bottom(kind, other)[::-1]
     return above if len(above) <= len(below) else below

@@ -356,6 +356,9 @@ class Rounds(unittest.TestCase):
                 for value in ([0, 2, 3], [0, 1], [-1, 1], [0, kind.size()], list(range(kind.size() + 1)), None, []):
                     self.assertIs(is_round(kind, top, top, value), False)
                 self.assertIsNone(round_of(kind, top, top))
+                told = [[low, middle, low + kind.size()] for low in range(-6, 7) for middle in range(-6, 7)]
+                for one, other in pairs_tried(kind)[::20]:
+                    self.assertFalse([value for value in told if is_round(kind, one, other, value)])
 
 
 if __name__ == "__main__":

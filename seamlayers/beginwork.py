@@ -4,6 +4,7 @@ To begin is seen from behind: what ends an order begins, turned over, its opposi
 """
 
 from seamlayers.blockwork import greatest_made
+from seamlayers.bulkwork import fallen
 from seamlayers.errors import TooMany
 from seamlayers.orderwork import after_step, count_crossings, falls_of, is_crossed, opposite_of, product_of
 from seamlayers.roundwork import least_ring_on
@@ -56,9 +57,9 @@ def levels_down(kind, order, most):
     many = 1
     while levels[-1]:
         found = {}
-        for here in levels[-1]:
-            for fall in falls_of(kind, here):
-                found[tuple(after_step(kind, here, fall))] = True
+        for step in range(kind.steps()):
+            for there in fallen(kind, levels[-1], step):
+                found[there] = True
         many += len(found)
         if most is not None and many > most:
             raise TooMany(most + 1)

@@ -1,5 +1,6 @@
 """What lies beneath an order, without checks."""
 
+from seamlayers.bulkwork import risen
 from seamlayers.errors import TooMany
 from seamlayers.orderwork import after_step, count_crossings, falls_of, is_crossed, opposite_of, product_of
 from seamlayers.rowwork import crossed_by, first_least
@@ -21,22 +22,6 @@ def lies_beneath(kind, one, other):
     return places_of(kind, one, first_least(kind, other)) is not None
 
 
-def risen(kind, orders, step):
-    """Return, for those of some orders, as tuples, that are not crossed at a step, tuples (order, order behind it)."""
-    at = step
-    if kind.name() == "mirror":
-        if step == 0:
-            return [(here, (-here[0],) + here[1:]) for here in orders if here[0] > 0]
-        at = step - 1
-    size = kind.size()
-    if at == size - 1:
-        ends = [(here, here[-1] - size, here[0] + size) for here in orders if here[-1] < here[0] + size]
-        return [(here, (first,) + here[1:-1] + (last,)) for here, first, last in ends]
-    behind = at + 1
-    return [(here, here[:at] + (here[behind], here[at]) + here[behind + 1:])
-            for here in orders if here[at] < here[behind]]
-
-
 def all_beneath(kind, order, most=None):
     """Return a dict from all orders beneath an order, as tuples, to their crossings.
 
@@ -44,7 +29,8 @@ def all_beneath(kind, order, most=None):
     """
     found = {tuple(kind.start()): 0}
     for step in first_least(kind, order):
-        for here, there in risen(kind, found, step):
+        moves = risen(kind, found, step)
+        for here, there in moves:
             if there not in found:
                 found[there] = found[here] + 1
         if most is not None and len(found) > most:
@@ -54,16 +40,8 @@ def all_beneath(kind, order, most=None):
 
 def counts_between(kind, one, other):
     """Return how many orders between two orders, the first beneath the second, have 0, 1, 2, .. crossings."""
-    found = {tuple(kind.start()): 0}
-    crossings, paths = [0], [None]
-    # Each order is told by its place: the start, and orders that come by a step from one that is found ahead.
-    for step in first_least(kind, other):
-        for here, there in risen(kind, found, step):
-            if there not in found:
-                found[there] = len(crossings)
-                crossings.append(crossings[found[here]] + 1)
-                paths.append((found[here], step))
     least, lessened = count_crossings(kind, one), {}
+    crossings, paths = _told_by_paths(kind, other)
     counts = [0] * (crossings[-1] + 1)
     for place, many in enumerate(crossings):
         if many >= least and (least == 0 or _is_above(kind, one, (place, many - least), paths, lessened)):
@@ -71,14 +49,31 @@ def counts_between(kind, one, other):
     return counts
 
 
+def _told_by_paths(kind, order):
+    """Return the crossings of all orders beneath an order, the start first, and how each comes from the start.
+
+    It comes, by a step behind, from one that stands ahead of it: this is told as a tuple (place, step).
+    """
+    found = {tuple(kind.start()): 0}
+    crossings, paths = [0], [None]
+    for step in first_least(kind, order):
+        moves = risen(kind, found, step)
+        for here, there in moves:
+            if there not in found:
+                found[there] = len(crossings)
+                crossings.append(crossings[found[here]] + 1)
+                paths.append((found[here], step))
+    return crossings, paths
+
+
 def _is_above(kind, one, above, paths, lessened):
     """Tell whether an order is beneath another one, told by its place and by how many more crossings it has.
 
-    By each step back on the path the greater order gets less, and the lesser one, too, if it is crossed there.
-    What steps make of lesser ones is kept.
+    What steps make of the lesser order, and of those that come of it, is kept for further calls.
     """
     place, more = above
     here = tuple(one)
+    # By each step back on the path the greater order gets less, and so does the lesser one if it is crossed there.
     while place and more >= 0:
         place, step = paths[place]
         if here not in lessened:

@@ -55,7 +55,10 @@ def check_standing(kind, standing):
 
 def check_standings(kind, one, other):
     """Refuse what is no kind, then each of the values that is no standing of it, then unlike ones."""
-    check_standing(kind, one)
+    if not isinstance(kind, Kind):
+        raise InvalidKind(kind)
+    if not is_told_standing(kind, one):
+        raise InvalidStanding(one)
     if not is_told_standing(kind, other):
         raise InvalidStanding(other)
     if len(one) != len(other):

@@ -31,18 +31,25 @@ def rises_of(kind, one, other):
 def least_ring_on(kind, one, other):
     """Return the least of the ring orders that two orders begin, or None."""
     size = kind.size()
-    rises = rises_of(kind, one, other)
-    for middle in range(size):
-        for low in range(size):
-            for rest in range(size):
-                if rises[low][middle] and rises[middle][rest]:
-                    rises[low][rest] = max(rises[low][rest], rises[low][middle] + rises[middle][rest])
+    rises = _with_sums(rises_of(kind, one, other))
     if any([rises[rest][rest] for rest in range(size)]):
         return None
     many = [[_many_crossed(size, low, rest, rises[low][rest]) for rest in range(size)] for low in range(size)]
     # Each number stands behind the greater ones that are crossed with it, and ahead of the lesser ones.
     places = [at + sum(many[at]) - sum([many[low][at] for low in range(size)]) for at in range(size)]
     return opposite_of(kind, places)
+
+
+def _with_sums(rises):
+    """Return the table of the furthest rises that come of those of a table, one behind the other."""
+    size = len(rises)
+    sums = [list(line) for line in rises]
+    for middle in range(size):
+        for low in range(size):
+            for rest in range(size):
+                if sums[low][middle] and sums[middle][rest]:
+                    sums[low][rest] = max(sums[low][rest], sums[low][middle] + sums[middle][rest])
+    return sums
 
 
 def _many_crossed(size, low, rest, rise):
